@@ -1,0 +1,1 @@
+"""Trueimage: a compiler whose images do exactly what the program means."""
