@@ -111,12 +111,12 @@ class StatementsWithinTest(Bounds):
             self.look_deep(31, "$" + inner)
         for wrong in (";", ")", "else", "5", "@"):
             self.look_deep(31, "$" + wrong)
-        self.look(in_main("{ " * 30 + "$").replace(" }", ""))
+        self.look("module m; int main() { " + "{ " * 30 + "$")
 
     def test_else_if_is_one_deeper_each_time(self):
         self.look(in_main("if (1) { } else " * 28 + "if (1) { } else { }"))
         self.look(in_main("if (1) { } else " * 28 + "if (1) { } else if ($1) { }"))
-        self.look_deep(2, "if (1) { } else " * 27 + "if (1) { } else if (1) $break;".replace("(1) $", "($1) "))
+        self.look_deep(2, "if (1) { } else " * 27 + "if (1) { } else if ($1) break;")
 
     def test_first_and_step_are_no_statements_of_their_own(self):
         self.look_deep(29, "for (i = 0; i < 1; i = i + 1) { }")
@@ -233,14 +233,14 @@ class PiecesOfExpressionsTest(Bounds):
         self.look(in_global("a + " * 59 + "a"))
         self.look(in_global("a + " * 60 + "$a"))
         self.look(in_global("a" + "[1]" * 39 + " + a"))
-        self.look(in_global("a" + "[1]" * 39 + " + a[$1]".replace("[$1]", "$[1]")))
+        self.look(in_global("a" + "[1]" * 39 + " + a$[1]"))
         self.look(in_global("a" + "[1]" * 39 + "[1]"))
         self.look(in_global("- a" + "[1]" * 39 + "[$1]"))
         self.look(in_global("- - a" + "[1]" * 39 + "$[1]"))
         self.look(in_global("a" + ".x" * 59))
         self.look(in_global("a" + ".x" * 59 + ".x"))
         self.look(in_global("a" + ".x" * 60 + "$.x"))
-        self.look(in_global("- a" + ".x" * 59 + "$.x".replace("$.x", "$.length")))
+        self.look(in_global("- a" + ".x" * 59 + "$.length"))
 
     def test_the_signs_of_statements_are_not_counted(self):
         whole = "- " * 119 + "a"

@@ -69,7 +69,7 @@ def _name(body, part, claims):
     return "thing", kind, [("global", 0, module, name)], 0
 
 
-def _outside(body, part, claims):
+def _in_or_more(body, part, claims):
     return "word", "int", [(part[0], 1, body.full_place(part[3]))], 0
 
 
@@ -202,6 +202,6 @@ def _slice_rows(body, param, claim, place):
 
 
 PARTS = {
-    "number": _number, "name": _name, "call": _call, "in": _outside, "more": _outside, "index": _index,
+    "number": _number, "name": _name, "call": _call, "in": _in_or_more, "more": _in_or_more, "index": _index,
     "field": _field, "length": _length, "one": _one, "two": _two, "three": _three,
 }

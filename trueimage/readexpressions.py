@@ -63,9 +63,9 @@ class ExpressionReader:
     def settle_all(self):
         """All ends that ends at a piece that goes on with no expression."""
         self.settle(1)
+        # Signs ahead of a ? were settled there, so that none stands directly ahead of its last part.
         while self.held and self.held[-1][0] == ":":
             self.end_within("three")
-            self.settle(1)
 
 
 def read_expression(cursor, depth):
@@ -121,7 +121,7 @@ def _read_name(reader):
     return False
 
 
-def _read_outside(reader):
+def _read_in_or_more(reader):
     sort, _, place = reader.take_counted()
     reader.cursor.want("(")
     reader.cursor.want(")")
@@ -136,7 +136,7 @@ def _read_bracket(reader):
 
 
 BEGINNINGS = {
-    "number": _read_number, "name": _read_name, "in": _read_outside, "more": _read_outside, "(": _read_bracket,
+    "number": _read_number, "name": _read_name, "in": _read_in_or_more, "more": _read_in_or_more, "(": _read_bracket,
 }
 
 
