@@ -289,7 +289,8 @@ class WaysTest(Checking):
             "switch (x) { }", "switch (x) { case 1: return 1; }", "switch (x) { case 1: return 1; default: }",
             "switch (x) { case 1: default: return 2; }", "switch (x) { case 1: x = 1; default: return 2; }", "switch (x) { default: }",
             "if (1) { return 1; }", "assert(0);", "if (x) return 1; else if (x + 1) return 2;", "{ if (x) return 1; }",
-            "f(1);", "switch (x) { case 1: return 1; case 2: default: return 3; }",
+            "f(1);", "switch (x) { case 1: return 1; case 2: default: return 3; }", "int a;", "int a = 1;", "int a[3];", "out(1);",
+            "while (x) break;", "while (x) continue;", "if (x) { int a[3] = {1}; } else { out(x); }",
         ):
             self.wrong_body(text)
 

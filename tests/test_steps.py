@@ -117,6 +117,11 @@ class MostTest(unittest.TestCase):
         whole = mean(modules, (), 9, 5000)
         self.assertEqual(mean(modules, (), 9, whole[2]), whole)
         self.assertEqual(mean(modules, (), 9, whole[2] - 1)[1], ("on",))
+        for text in (main_of(""), main_of("int a[3]; v();", S), "module m; int main() { int x; x = 1; return x; }"):
+            whole = run_of(text, (), 9)
+            self.assertEqual(whole[1][0], "answer")
+            self.assertEqual(run_of(text, (), 9, whole[2] + 1), whole)
+            self.assertEqual(run_of(text, (), 9, whole[2] - 1)[1], ("on",))
 
     def test_runs_without_an_end(self):
         for text in ("while (1) { }", "for (;;) { }", "do { } while (1);", "while (1) continue;", "for (;;) { continue; }", "do continue; while (1);",
