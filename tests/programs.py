@@ -6,6 +6,8 @@ which the printer puts in. Nothing here uses the package.
 
 import random
 
+from writing import Writer
+
 TWO32 = 2 ** 32
 FIELDS = {"x": ("int", 0, None), "y": ("uint", 1, None), "r": ("int", 2, 3), "q": ("uint", 5, 2)}
 STRUCT_WORDS = 7
@@ -328,28 +330,12 @@ class Maker:
         return ["switch", None, None, self.word(5), cases, default]
 
 
-class Printer:
+class Printer(Writer):
     """Prints a program, with as few brackets as can be and some more, and puts in the places."""
-
-    def __init__(self, seed):
-        self.random = random.Random(seed)
-        self.text = ""
-        self.line = 1
-        self.column = 1
 
     def put(self, piece):
         """Print a piece; the answer is its place."""
-        place = ("m", self.line, self.column)
-        self.text += piece
-        self.column += len(piece)
-        if self.random.random() < 0.1:
-            self.text += "\n"
-            self.line += 1
-            self.column = 1
-        else:
-            self.text += " "
-            self.column += 1
-        return place
+        return ("m", *self.write(piece))
 
     def put_all(self, pieces):
         for piece in pieces.split():

@@ -11,6 +11,20 @@ WORDS_OF_WHY = (
     "main", "headers", "uses",
 )
 
+# The program of the document: the sum of the greatest two numbers.
+GREATEST_TWO = """module top;
+int best[2];
+void see(int x) {
+  if (x > best[0]) { best[1] = best[0]; best[0] = x; }
+  else if (x > best[1]) { best[1] = x; }
+}
+int main() {
+  while (more()) { see(in()); }
+  out(best[0] + best[1]);
+  return 0;
+}
+"""
+
 
 def place_of_fault(text):
     """The place that BadText tells for a text, None for a right one."""

@@ -2,7 +2,7 @@
 
 import unittest
 
-from support import WORDS_OF_WHY, checked, fault_of, main_of
+from support import GREATEST_TWO, WORDS_OF_WHY, checked, fault_of, main_of
 from trueimage.checker import check_module, header_of
 from trueimage.errors import BadProgram
 from trueimage.reader import read_module
@@ -434,20 +434,7 @@ class ModulesTest(Checking):
 
 class ExampleTest(unittest.TestCase):
     def test_the_program_of_the_document(self):
-        text = """
-module top;
-int best[2];
-void see(int x) {
-  if (x > best[0]) { best[1] = best[0]; best[0] = x; }
-  else if (x > best[1]) { best[1] = x; }
-}
-int main() {
-  while (more()) { see(in()); }
-  out(best[0] + best[1]);
-  return 0;
-}
-"""
-        self.assertEqual(len(checked(text)), 1)
+        self.assertEqual(len(checked(GREATEST_TWO)), 1)
 
 
 if __name__ == "__main__":

@@ -2,7 +2,7 @@
 
 import unittest
 
-from support import checked, main_of, outputs_of, run_of, values_of
+from support import GREATEST_TWO, checked, main_of, outputs_of, run_of, values_of
 from trueimage.meaning import mean
 
 TWO32 = 2 ** 32
@@ -347,20 +347,8 @@ class ModulesTest(unittest.TestCase):
         ])
 
     def test_the_greatest_two(self):
-        text = """module top;
-int best[2];
-void see(int x) {
-  if (x > best[0]) { best[1] = best[0]; best[0] = x; }
-  else if (x > best[1]) { best[1] = x; }
-}
-int main() {
-  while (more()) { see(in()); }
-  out(best[0] + best[1]);
-  return 0;
-}
-"""
         for inputs, told in (((3, 9, 4), 13), ((), 0), ((5,), 5), ((4, 4), 8), ((TWO32 - 1, 2), 2)):
-            self.assertEqual(run_of(text, inputs)[:2], ((told,), ("answer", 0)))
+            self.assertEqual(run_of(GREATEST_TWO, inputs)[:2], ((told,), ("answer", 0)))
 
 
 if __name__ == "__main__":

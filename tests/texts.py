@@ -1,20 +1,17 @@
 """Random texts that are right but for the bounds of [8], with the place of the first piece that those make wrong."""
 
-import random
+from writing import Writer
 
 PLACES = ("=", "+", "-", "*", "/", "mod", "<", "<=", ">", ">=", "==", "!=", "&&", "||", "&", "|", "^", "<<", ">>")
 
 
-class TextWriter:
+class TextWriter(Writer):
     """Writes a text piece by piece, and knows how deep each one stands and how many of its expression came ahead."""
 
     def __init__(self, seed, wide):
-        self.random = random.Random(seed)
+        super().__init__(seed)
         # How likely an expression grows to its side instead of downwards.
         self.wide = wide
-        self.text = ""
-        self.line = 1
-        self.column = 1
         self.wrong = None
         self.too_deep = False
         self.count = 0
@@ -24,18 +21,10 @@ class TextWriter:
         """Write a piece; counted if a part of an expression begins with it."""
         self.count += 1
         self.left -= 1
+        place = self.write(piece)
         if self.wrong is None and (self.too_deep or counted and self.count > 120):
-            self.wrong = (self.line, self.column)
+            self.wrong = place
         self.too_deep = False
-        self.text += piece
-        self.column += len(piece)
-        if self.random.random() < 0.05:
-            self.text += "\n"
-            self.line += 1
-            self.column = 1
-        else:
-            self.text += " "
-            self.column += 1
 
     def put_all(self, pieces):
         for piece in pieces.split():

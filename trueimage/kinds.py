@@ -1,7 +1,8 @@
 """Kinds of things [9].
 
 A kind is "int" or "uint" (a word), "void" (of functions alone), ("struct", module, name),
-("array", kind of its things, how many) or ("slice", kind of its things).
+("array", kind of its things, how many) or ("slice", kind of its things). Its first item tells which tuple it is; that
+of a text is a letter, which is none of these words.
 """
 
 MOST_OF_STRUCTURE = 256
