@@ -4,7 +4,7 @@ A ROW of a checked function is a tuple (name, steps, ..): what a machine with a 
 and how many steps of the meaning that is. CELLS hold the params, a slice in two of them, and the local words;
 SLOTS hold the arrays and structures of a call. A distance counts rows from the next one on.
 
-("begin", steps)                         a statement, or a round of a loop, begins
+("begin", steps, place)                  a function, a statement, or a round of a loop, begins
 ("number", steps, word)                  the word comes onto the pile
 ("read", steps, cell)                    what the cell has comes onto the pile
 ("write", steps, cell)                   the last one of the pile goes into the cell

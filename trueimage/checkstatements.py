@@ -6,11 +6,10 @@ Each function for a sort of statements tells whether every way through such a st
 from trueimage.checkexpressions import claim_of, rows_of, word_rows
 from trueimage.kinds import MOST_OF_LOCAL, is_word
 
-ROUND = ("begin", 1)
-
 
 def check_body(body, statements, place):
     """Check the statements of a function."""
+    _begin(body, place, 0)
     if body.answer == "void":
         _check_row(body, statements)
         body.emit(("leave", 0))
@@ -29,8 +28,13 @@ def _check_row(body, statements):
     return returns
 
 
+def _begin(body, place, steps):
+    """Something begins that counts so many steps: a function, a statement, or a round of a loop."""
+    return body.emit(("begin", steps, body.full_place(place)))
+
+
 def _check_statement(body, statement):
-    body.emit(("begin", 1))
+    _begin(body, statement[1], 1)
     check = STATEMENTS[statement[0]]
     return check(body, statement)
 
@@ -112,8 +116,8 @@ def _check_loop(body, inner):
 
 
 def _while(body, statement):
-    _, _, test, inner = statement
-    back = body.emit(ROUND)
+    _, place, test, inner = statement
+    back = _begin(body, place, 1)
     body.emit_all(rows_of(body, test))
     leave = body.emit(("if", 0, 0))
     breaks, continues = _check_loop(body, inner)
@@ -124,11 +128,11 @@ def _while(body, statement):
 
 
 def _do(body, statement):
-    _, _, inner, test = statement
+    _, place, inner, test = statement
     back = body.here()
     breaks, continues = _check_loop(body, inner)
     body.land_all(continues)
-    body.emit(ROUND)
+    _begin(body, place, 1)
     body.emit_all(rows_of(body, test))
     leave = body.emit(("if", 0, 0))
     body.jump_back(back)
@@ -137,11 +141,11 @@ def _do(body, statement):
 
 
 def _for(body, statement):
-    _, _, first, test, step, inner = statement
+    _, place, first, test, step, inner = statement
     known = len(body.told)
     if first is not None:
         _check_statement(body, first)
-    back = body.emit(ROUND)
+    back = _begin(body, place, 1)
     leave = []
     if test is not None:
         body.emit_all(rows_of(body, test))
