@@ -44,9 +44,9 @@ class Flow:
                 sizes[self.above[block]] += sizes[block]
         return tree
 
-    def can_come(self, block):
+    def can_come_to(self, block):
         """Whether a block can be come to."""
-        return self.number[block] >= 0
+        return block < len(self.number) and self.number[block] >= 0
 
     def passes(self, one, block):
         """Whether every way to a block that can be come to passes this one, or ends there."""
@@ -112,15 +112,32 @@ def _least_label(at, linked, up, labels, semis):
     return labels[at]
 
 
+def inner_heads(flow):
+    """For each block the head of the innermost loop in which it stands, None outside of loops."""
+    heads = [None] * len(flow.nexts)
+    for head, blocks in _loops_of(flow):
+        for block in blocks:
+            heads[block] = head
+    return heads
+
+
 def loop_depths(flow):
     """In how many loops each block stands."""
     depths = [0] * len(flow.nexts)
+    for _, blocks in _loops_of(flow):
+        for block in blocks:
+            depths[block] += 1
+    return depths
+
+
+def _loops_of(flow):
+    """The loops, outer ones first: pairs of a head, that every way into the loop passes, and the loop's blocks."""
+    loops = []
     for head in flow.order:
         backs = [block for block in flow.befores[head] if flow.passes(head, block)]
         if backs:
-            for block in _loop_of(flow, head, backs):
-                depths[block] += 1
-    return depths
+            loops.append((head, _loop_of(flow, head, backs)))
+    return loops
 
 
 def _loop_of(flow, head, backs):
