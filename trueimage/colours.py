@@ -1,0 +1,125 @@
+"""Colourings: which spot each value of chosen code has [45]."""
+
+from trueimage.colourforms import FREE, KEPT, REGISTER, WORD
+from trueimage.colourwalk import Walk
+
+
+def colours_of(function):
+    """A right colouring that uses all registers for values."""
+    return _coloured(function, FREE, KEPT)
+
+
+def colours_within(function, many):
+    """A right colouring that uses the first so many kept registers alone."""
+    return _coloured(function, (), KEPT[:many])
+
+
+def most_alive(function):
+    """The greatest number of values that need unlike spots at one point."""
+    return Walk(function).most_alive()
+
+
+def spills_in(colouring):
+    """The ascending tuple of the values in words of the frame."""
+    return tuple([value for value, kind, _ in colouring[1] if kind == WORD])
+
+
+def _coloured(function, free, kept):
+    walk = Walk(function)
+    registers = Registers(walk, free, kept)
+    walk.go(registers)
+    words = Words(registers.spilled)
+    walk.go(words)
+    spots = [(value, REGISTER, number) for value, number in registers.numbers.items()]
+    spots.extend([(value, WORD, number) for value, number in words.numbers.items()])
+    return (walk.table, tuple(sorted(spots)))
+
+
+class Registers:
+    """Gives registers to values, and finds those for which there are too few."""
+
+    def __init__(self, walk, free, kept):
+        self.over_calls = walk.over_calls()
+        self.weights = walk.weights()
+        self.partners = walk.partners()
+        self.kept = kept
+        self.all = free + kept
+        self.numbers = {}
+        self.spilled = {}
+        # For each register that is in use at this point the value that has it.
+        self.users = {}
+
+    def begin(self, values):
+        """A block begins, into which these values live."""
+        self.users = {self.numbers[value]: value for value in values if value in self.numbers}
+
+    def end(self, values):
+        """These values live no more."""
+        for value in values:
+            number = self.numbers.get(value, 0)
+            if self.users.get(number, None) == value:
+                del self.users[number]
+
+    def give(self, value):
+        """A value is given."""
+        allowed = self.kept if value in self.over_calls else self.all
+        number = self._unused(value, allowed)
+        if number is None:
+            number = self._spill(value, allowed)
+        if number is not None:
+            self.numbers[value] = number
+            self.users[number] = value
+
+    def _unused(self, value, allowed):
+        """A register that is not in use, one that saves a move if there is one; None if all are."""
+        for partner in self.partners.get(value, []):
+            number = self.numbers.get(partner, 0)
+            if number in allowed and number not in self.users:
+                return number
+        for number in allowed:
+            if number not in self.users:
+                return number
+        return None
+
+    def _spill(self, value, allowed):
+        """One of those that live is spilled: the register that is not in use then, None if it is the value itself."""
+        least = self.users[allowed[0]]
+        for number in allowed:
+            if self.weights[self.users[number]] < self.weights[least]:
+                least = self.users[number]
+        # Of equal ones that goes which lives longer, mostly.
+        if self.weights[value] < self.weights[least]:
+            self.spilled[value] = True
+            return None
+        self.spilled[least] = True
+        number = self.numbers[least]
+        del self.numbers[least]
+        return number
+
+
+class Words:
+    """Gives words of the frame to values that are spilled."""
+
+    def __init__(self, spilled):
+        self.spilled = spilled
+        self.numbers = {}
+        self.users = {}
+
+    def begin(self, values):
+        """A block begins, into which these values live."""
+        self.users = {self.numbers[value]: value for value in values if value in self.spilled}
+
+    def end(self, values):
+        """These values live no more."""
+        for value in values:
+            if value in self.spilled:
+                del self.users[self.numbers[value]]
+
+    def give(self, value):
+        """A value is given."""
+        if value in self.spilled:
+            number = 0
+            while number in self.users:
+                number += 1
+            self.numbers[value] = number
+            self.users[number] = value
