@@ -38,16 +38,16 @@ class Chooser:
         row = self.facts.row_of(value)
         return row[2] if row is not None and row[0] == "const" else None
 
-    def held(self, value):
+    def operand(self, value):
         """A value as it stands in a chosen row that has it in a register."""
         if self.word(value) == 0:
             return NOUGHT
         self.wanted.append(value)
         return value
 
-    def all_held(self, values):
+    def operands(self, values):
         """Values as they stand in a chosen row."""
-        return tuple([self.held(value) for value in values])
+        return tuple([self.operand(value) for value in values])
 
     def make_wanted(self):
         """Make the pure rows whose values are wanted."""
@@ -69,14 +69,14 @@ class Chooser:
         while True:
             row = self.facts.row_of(value)
             if row is None or row[0] != "op" or row[2] not in BRANCHES:
-                return "bne" if positive else "beq", self.held(value), NOUGHT
+                return "bne" if positive else "beq", self.operand(value), NOUGHT
             _, _, kind, one, other, _ = row
             if kind == "eq" and self.word(other) == 0:
                 value = one
             elif kind == "eq" and self.word(one) == 0:
                 value = other
             else:
-                return BRANCHES[kind][0 if positive else 1], self.held(one), self.held(other)
+                return BRANCHES[kind][0 if positive else 1], self.operand(one), self.operand(other)
             positive = not positive
 
     def spot(self, address, offset):
@@ -84,12 +84,12 @@ class Chooser:
         kind, what, bytes_behind = self._root(address)
         bytes_behind = signed(word_of(bytes_behind + BYTES * offset))
         if kind == "at" and LEAST <= bytes_behind <= MOST:
-            return kind, self.held(what), bytes_behind
+            return kind, self.operand(what), bytes_behind
         if kind == "name" and 0 <= bytes_behind < MOST_OBJECT_BYTES:
             return kind, what, bytes_behind
         if kind == "slot" and 0 <= bytes_behind < BYTES * self.slots[what]:
             return kind, what, bytes_behind
-        return "at", self.held(address), BYTES * offset
+        return "at", self.operand(address), BYTES * offset
 
     def _root(self, address):
         """What an address stands behind, and by how many bytes."""
@@ -105,18 +105,18 @@ class Chooser:
 
     def end(self, end, places):
         """The rows ahead of an end, and the end; places tells where blocks stand."""
-        goals = [(places[goal], self.all_held(args)) for goal, args in hands(end)]
+        goals = [(places[goal], self.operands(args)) for goal, args in hands(end)]
         if end[0] == "go":
             return [], ("go",) + goals[0]
         if end[0] == "if":
             return [], ("branch",) + self.test(end[1]) + goals[0] + goals[1]
         if end[0] == "return":
-            return [], ("return", self.held(end[1]))
+            return [], ("return", self.operand(end[1]))
         if end[0] == "tail":
             _, name, args, deeper, place = end
             depth = self.new_value()
             ahead = [("deep", depth, self.depth, deeper, place)]
-            return ahead, ("tail", name, (depth,) + self.all_held(args), place)
+            return ahead, ("tail", name, (depth,) + self.operands(args), place)
         return [], end
 
 
@@ -136,13 +136,13 @@ def _index(chooser, row):
     _, value, address, index, scale, place = row
     size = BYTES * scale
     behind = chooser.new_value()
-    last = ("three", "add", value, chooser.held(address), behind, place)
+    last = ("three", "add", value, chooser.operand(address), behind, place)
     if chooser.word(index) is not None:
         return [("set", behind, word_of(size * chooser.word(index)), place), last]
     if size & (size - 1) == 0:
-        return [("imm", "slli", behind, chooser.held(index), size.bit_length() - 1, place), last]
+        return [("imm", "slli", behind, chooser.operand(index), size.bit_length() - 1, place), last]
     many = chooser.new_value()
-    product = ("three", "mul", behind, chooser.held(index), many, place)
+    product = ("three", "mul", behind, chooser.operand(index), many, place)
     return [("set", many, size, place), product, last]
 
 
@@ -153,7 +153,7 @@ def _load(chooser, row):
 
 def _store(chooser, row):
     _, address, offset, value, place = row
-    return [("store", chooser.held(value)) + chooser.spot(address, offset) + (place,)]
+    return [("store", chooser.operand(value)) + chooser.spot(address, offset) + (place,)]
 
 
 def _check(chooser, row):
@@ -165,7 +165,7 @@ def _call(chooser, row):
     depth = chooser.new_value()
     return [
         ("deep", depth, chooser.depth, deeper, place),
-        ("call", value, name, (depth,) + chooser.all_held(args), place),
+        ("call", value, name, (depth,) + chooser.operands(args), place),
     ]
 
 
@@ -174,7 +174,7 @@ def _enter(chooser, row):
 
 
 def _out(chooser, row):
-    return [("out", chooser.held(row[1]), row[2])]
+    return [("out", chooser.operand(row[1]), row[2])]
 
 
 def _as_it_is(chooser, row):

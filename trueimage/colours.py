@@ -28,7 +28,7 @@ def _coloured(function, free, kept):
     walk = Walk(function)
     registers = Registers(walk, free, kept)
     walk.go(registers)
-    words = Words(registers.spilled)
+    words = Words(registers.spilled, registers.partners)
     walk.go(words)
     spots = [(value, REGISTER, number) for value, number in registers.numbers.items()]
     spots.extend([(value, WORD, number) for value, number in words.numbers.items()])
@@ -43,7 +43,7 @@ class Registers:
         self.weights = walk.weights()
         self.partners = walk.partners()
         self.kept = kept
-        self.all = free + kept
+        self.allowed = free + kept
         self.numbers = {}
         self.spilled = {}
         # For each register that is in use at this point the value that has it.
@@ -62,7 +62,7 @@ class Registers:
 
     def give(self, value):
         """A value is given."""
-        allowed = self.kept if value in self.over_calls else self.all
+        allowed = self.kept if value in self.over_calls else self.allowed
         number = self._unused(value, allowed)
         if number is None:
             number = self._spill(value, allowed)
@@ -100,8 +100,9 @@ class Registers:
 class Words:
     """Gives words of the frame to values that are spilled."""
 
-    def __init__(self, spilled):
+    def __init__(self, spilled, partners):
         self.spilled = spilled
+        self.partners = partners
         self.numbers = {}
         self.users = {}
 
@@ -118,8 +119,17 @@ class Words:
     def give(self, value):
         """A value is given."""
         if value in self.spilled:
-            number = 0
-            while number in self.users:
-                number += 1
+            number = self._unused(value)
             self.numbers[value] = number
             self.users[number] = value
+
+    def _unused(self, value):
+        """A word that is not in use, one that saves a move if there is one."""
+        for partner in self.partners.get(value, []):
+            number = self.numbers.get(partner, -1)
+            if number >= 0 and number not in self.users:
+                return number
+        number = 0
+        while number in self.users:
+            number += 1
+        return number

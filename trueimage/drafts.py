@@ -35,11 +35,11 @@ class Draft:
             value = behind
         return last
 
-    def replace(self, value, other):
+    def rename(self, value, other):
         """A value is called by another one."""
         self.names[value] = other
 
-    def replace_leaf(self, value, other):
+    def rename_leaf(self, value, other):
         """A leaf is given no more, and is called by another value."""
         self.names[value] = other
         self.told[value] = same(other)

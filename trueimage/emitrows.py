@@ -77,14 +77,14 @@ def _leave(maker):
 
 def _set(maker, row):
     _, value, word, _ = row
-    goal = maker.goal(value, FIRST)
+    goal = maker.home(value, FIRST)
     maker.make(goal, word)
     maker.keep(value, goal)
 
 
 def _name(maker, row):
     _, value, name, _ = row
-    goal = maker.goal(value, FIRST)
+    goal = maker.home(value, FIRST)
     maker.patched(("lui", goal, 0, 0), "high", name, 0)
     maker.patched(("addi", goal, goal, 0), "low", name, 0)
     maker.keep(value, goal)
@@ -92,7 +92,7 @@ def _name(maker, row):
 
 def _slot(maker, row):
     _, value, number, _ = row
-    goal = maker.goal(value, FIRST)
+    goal = maker.home(value, FIRST)
     maker.advance(goal, SP, maker.frame.slots[number])
     maker.keep(value, goal)
 
@@ -101,7 +101,7 @@ def _three(maker, row):
     _, op, value, one, other, _ = row
     first = maker.read(one, FIRST)
     second = maker.read(other, SECOND)
-    goal = maker.goal(value, FIRST)
+    goal = maker.home(value, FIRST)
     maker.word(op, goal, first, second)
     maker.keep(value, goal)
 
@@ -109,7 +109,7 @@ def _three(maker, row):
 def _imm(maker, row):
     _, op, value, one, number, _ = row
     first = maker.read(one, FIRST)
-    goal = maker.goal(value, FIRST)
+    goal = maker.home(value, FIRST)
     maker.word(op, goal, first, number)
     maker.keep(value, goal)
 
@@ -123,7 +123,7 @@ def _base(maker, kind, what, behind):
 
 def _load(maker, row):
     _, value, kind, what, behind, _ = row
-    goal = maker.goal(value, FIRST)
+    goal = maker.home(value, FIRST)
     if kind == "name":
         maker.patched(("lui", SECOND, 0, 0), "high", what, behind)
         maker.patched(("lw", goal, SECOND, 0), "low", what, behind)
@@ -155,7 +155,7 @@ def _must(maker, row):
 def _deep(maker, row):
     _, value, ahead, deeper, _ = row
     first = maker.read(ahead, SECOND)
-    goal = maker.goal(value, FIRST)
+    goal = maker.home(value, FIRST)
     maker.advance(goal, first, deeper)
     maker.patched(("addi", SECOND, 0, 0), "limit", "", 0)
     maker.word("bge", SECOND, goal, 2 * BYTES)

@@ -49,7 +49,7 @@ class Folding:
         leaf = self._leaf(term)
         if leaf is None:
             return row
-        self.draft.replace(row[1], leaf)
+        self.draft.rename(row[1], leaf)
         return None
 
     def _leaf(self, term):

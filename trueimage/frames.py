@@ -162,7 +162,7 @@ class LineMaker:
         """A register becomes a value."""
         self.move(goal, self.read(value, goal))
 
-    def goal(self, value, between):
+    def home(self, value, between):
         """The register in which a value is made, the one between if it stands in the frame."""
         kind, number = self.spot(value)
         return between if kind == WORD else number

@@ -18,7 +18,7 @@ def _join_next(draft, number, end):
     """Join a block and the one to which its end goes."""
     _, goal, args = end
     for param, arg in zip(draft.facts.blocks[goal][0], args):
-        draft.replace_leaf(param, arg)
+        draft.rename_leaf(param, arg)
     draft.rows[number].extend(draft.rows[goal])
     draft.ends[number] = draft.ends[goal]
     ahead = draft.ways[number][0]

@@ -17,7 +17,7 @@ class LineFlow:
                 self.labels.setdefault(line[1], at)
         self.found = {}
 
-    def place(self, at):
+    def place_from(self, at):
         """The place of the first word or branch from here on, RING for a ring of jumps, BEHIND behind the last line."""
         gone = {}
         while 0 <= at < len(self.lines) and at not in self.found and at not in gone:
@@ -37,7 +37,7 @@ class LineFlow:
 
     def at_label(self, label):
         """The place of the first word or branch from a label on."""
-        return self.place(self.labels[label]) if label in self.labels else BEHIND
+        return self.place_from(self.labels[label]) if label in self.labels else BEHIND
 
     def goes_past(self, at):
         """Whether a word is a branch, that goes past the next word."""
@@ -54,13 +54,13 @@ class LineFlow:
         """The places behind a word or a branch: the one that a branch takes ahead of the next one."""
         line = self.lines[at]
         if line[0] == "branch":
-            return [self.at_label(line[4]), self.place(at + 1)]
+            return [self.at_label(line[4]), self.place_from(at + 1)]
         if leaves(line[1]):
             return []
         if not self.goes_past(at):
-            return [self.place(at + 1)]
+            return [self.place_from(at + 1)]
         past = self.word_past(at)
-        return [BEHIND if past is None else self.place(past + 1), self.place(at + 1)]
+        return [BEHIND if past is None else self.place_from(past + 1), self.place_from(at + 1)]
 
 
 def leaves(instruction):

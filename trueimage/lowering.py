@@ -87,7 +87,7 @@ class Lowerer:
                 lower_row(self, self.rows[at])
             end = ENDS[last[0]] if ends else _end_jump
             end(self, last, block.nexts)
-        return maker.made()
+        return maker.made_blocks()
 
     def _first_cells(self):
         """The values of the cells that params have."""

@@ -81,7 +81,7 @@ class MiddleMaker:
             return self.give("index", entry[1], self.give("const", 1), entry[2])
         return entry[1]
 
-    def made(self):
+    def made_blocks(self):
         """The blocks of the function."""
         made = []
         for params, rows, parts, edges in self.blocks:

@@ -7,7 +7,7 @@ from trueimage.colours import colours_of
 from trueimage.emitrows import lines_of
 from trueimage.errors import BadColours
 from trueimage.facts import flow_of
-from trueimage.shortlines import same_lines, shortened
+from trueimage.shortlines import shortened
 from trueimage.units import IS_GLOBAL, check_unit
 
 LEAST_PACE = 8
@@ -25,11 +25,11 @@ class Joining:
         self.frames = []
         self.pace = LEAST_PACE
 
-    def join(self, function, lines, size):
+    def take_in(self, function, lines, size):
         """The words of a function come, of these lines and with a frame of so many bytes."""
         name, kind, _, blocks = function
         start = len(self.words)
-        made = assembled(_shorter(lines))
+        made = assembled(shortened(lines))
         self.names.append((name, kind, len(blocks[0][0]), start))
         self.frames.append((name, size))
         self.words.extend(made.words)
@@ -54,17 +54,11 @@ def object_of(unit, colourings=None):
         if wrong is not None:
             raise BadColours(function[0], wrong[0])
         lines, size = lines_of(low, colouring)
-        joining.join(function, lines, size)
+        joining.take_in(function, lines, size)
     return (
         name, tuple(joining.words), things, tuple(joining.names), wants, tuple(joining.patches), tuple(joining.places),
         tuple(joining.traps), tuple(joining.frames), _calls_of(functions), joining.pace,
     )
-
-
-def _shorter(lines):
-    """Shorter lines, if the checker takes them."""
-    short = shortened(lines)
-    return short if same_lines(lines, short) else lines
 
 
 def _most_words(lines, many):

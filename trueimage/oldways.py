@@ -26,7 +26,7 @@ class Known:
             return self.given[value]
         return self.worths.term(value)
 
-    def terms(self, values):
+    def all_terms(self, values):
         """The terms of values."""
         return tuple([self.term(value) for value in values])
 
@@ -55,7 +55,7 @@ def effect_of(row, known):
     if sort == "store":
         return ("store", known.address(row, 1), known.term(row[3]), row[4])
     if sort == "call":
-        return ("call", row[2], known.terms(row[3]), row[4], row[5])
+        return ("call", row[2], known.all_terms(row[3]), row[4], row[5])
     if sort == "out":
         return ("out", known.term(row[1]), row[2])
     return row if sort == "enter" else (sort, row[2])
@@ -66,7 +66,7 @@ def last_effect(end, known):
     if end[0] == "return":
         return ("return", known.term(end[1]))
     if end[0] == "tail":
-        return ("tail", end[1], known.terms(end[2]), end[3], end[4])
+        return ("tail", end[1], known.all_terms(end[2]), end[3], end[4])
     return end if end[0] == TRAP else None
 
 
@@ -92,7 +92,7 @@ class OldWay:
         # For each turn that isn't known: how many effects came ahead, its core, and whether that is to be not 0.
         self.turns = []
         self.ended = False
-        self.times = {}
+        self.counts = {}
 
     def go(self, way, to_end):
         """Take these sides, and come to the end of the block behind them if that is wanted: whether this can be so."""
@@ -150,8 +150,8 @@ class OldWay:
 
     def _new_leaf(self, value):
         """The term of a leaf that is given anew."""
-        self.times[value] = self.times.get(value, 0) + 1
-        return leaf_term(self.terms, ("way", value, self.times[value]), self.facts.sorts[value])
+        self.counts[value] = self.counts.get(value, 0) + 1
+        return leaf_term(self.terms, ("way", value, self.counts[value]), self.facts.sorts[value])
 
     def _turn(self, side):
         """The block's end takes a side: whether it can."""
@@ -169,7 +169,7 @@ class OldWay:
             if core is not None:
                 self.turns.append((len(self.effects), core, positive == (side == 0)))
         goal, args = goals[side]
-        handed = self.known.terms(args)
+        handed = self.known.all_terms(args)
         for param, term in zip(self.facts.blocks[goal][0], handed):
             self.known.given[param] = term
         self.block = goal

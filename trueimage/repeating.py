@@ -62,7 +62,7 @@ class Repeating:
             # A word is as easily made again as kept.
             return True
         if term in self.made and self.facts.flow.passes(self.made[term][1], number):
-            self.draft.replace(row[1], self.made[term][0])
+            self.draft.rename(row[1], self.made[term][0])
             return False
         self.made[term] = (row[1], number)
         return True
@@ -72,7 +72,7 @@ class Repeating:
         key = (self.changes, self.terms.behind(self.known[row[2]], row[3]))
         if key in self.loads:
             other = self.loads[key]
-            self.draft.replace_leaf(row[1], other)
+            self.draft.rename_leaf(row[1], other)
             self.known[row[1]] = self.known[other]
             return False
         self._new_leaf(row[1], number)

@@ -44,7 +44,7 @@ class SameParams:
         named = [self.draft.name_of(value) for value in values]
         others = [value for value in named if value != param]
         if all([value == others[0] for value in others]):
-            self.draft.replace_leaf(param, others[0])
+            self.draft.rename_leaf(param, others[0])
             return True
         rows = [self._const(value) for value in others]
         if None in rows or not all([row[2] == rows[0][2] for row in rows]):

@@ -7,7 +7,7 @@ def same_lines(old, new):
     """Whether new lines do what old ones do."""
     before, after = LineFlow(old), LineFlow(new)
     seen = {}
-    pile = [(before.place(0), after.place(0))]
+    pile = [(before.place_from(0), after.place_from(0))]
     while pile:
         pair = pile.pop()
         if pair not in seen:
@@ -42,101 +42,77 @@ def _pairs_behind(before, after, one, other):
 
 def shortened(lines):
     """Lines that do the same, never more of them."""
-    layout = Layout(lines)
-    layout.lay_out()
-    if layout.fails or len(layout.lines) > len(lines) or not same_lines(lines, layout.lines):
+    short = Shortening(lines).short_lines()
+    if short is None or len(short) > len(lines) or not same_lines(lines, short):
         return list(lines)
-    return layout.lines
+    return short
 
 
-class Layout:
-    """Lays lines out anew, each behind one that goes on to it, as far as that can be."""
+class Shortening:
+    """Makes lines anew, in their order, of the words and branches that can be come to."""
 
     def __init__(self, lines):
         self.flow = LineFlow(lines)
-        self.names = self._names_of(lines)
-        self.order = []
-        self.done = {}
-        self.wanted = {}
-        self.waiting = []
-        self.lines = []
-        self.fails = False
-
-    def _names_of(self, lines):
-        """For each place that a label stands for the first such label."""
-        names = {}
+        # For each place that a label stands for the first such label.
+        self.names = {}
         for at, line in enumerate(lines):
             if line[0] == "label":
-                names.setdefault(self.flow.place(at), line[1])
-        return names
+                self.names.setdefault(self.flow.place_from(at), line[1])
+        # For each word or branch that can be come to, what comes behind it where nothing is gone on to otherwise.
+        self.falls = self._find_falls()
+        self.wanted = {}
 
-    def lay_out(self):
-        """Make the lines."""
-        self.waiting.append(self.flow.place(0))
-        while self.waiting and not self.fails:
-            at = self.waiting.pop()
-            if at not in self.done:
-                self._follow(at)
-        for at, line in self.order:
-            if at in self.wanted:
-                self.lines.append(("label", self.names[at]))
-            self.lines.append(line)
+    def _find_falls(self):
+        falls = {}
+        pile = [self.flow.place_from(0)]
+        while pile:
+            at = pile.pop()
+            if at >= 0 and at not in falls:
+                nexts = self.flow.nexts(at)
+                falls[at] = nexts[-1] if nexts else None
+                pile.extend(nexts)
+            elif at == BEHIND:
+                falls[BEHIND] = None
+        for at in list(falls):
+            if at >= 0 and self.flow.goes_past(at):
+                # Who goes past a word comes to what stands behind that, though the word itself may end there.
+                falls[falls[at]] = self.flow.nexts(at)[0]
+        return falls
 
-    def _follow(self, at):
-        """Lay out what begins at a place, one behind another."""
-        while at is not None and not self.fails:
-            if at in self.done:
-                self._add(None, ("jump", self._name(at), None))
-                return
-            self.done[at] = True
-            if at == RING:
-                self._add(at, ("jump", self._name(at), None))
-                return
-            if at == BEHIND:
-                self.fails = True
-                return
-            line = self.flow.lines[at]
-            at = self._branch(at, line) if line[0] == "branch" else self._word(at, line)
-
-    def _add(self, at, line):
-        self.order.append((at, line))
-
-    def _name(self, at):
-        """The label for a place, which is wanted."""
-        if at not in self.names:
-            self.fails = True
-            return 0
-        self.wanted[at] = True
-        return self.names[at]
-
-    def _word(self, at, line):
-        """Lay out a word; one that goes past the next word has that behind it."""
-        self._add(at, line)
-        nexts = self.flow.nexts(at)
-        if not self.flow.goes_past(at):
-            return nexts[0] if nexts else None
-        past = nexts[1]
-        if past in self.done or past != self.flow.word_past(at):
-            self.fails = True
+    def short_lines(self):
+        """The lines, None if the old ones go on behind their last one."""
+        if BEHIND in self.falls:
             return None
-        self.done[past] = True
-        return self._past(past, nexts[0])
+        order = sorted(self.falls)
+        made = []
+        if self.flow.place_from(0) not in order[:1]:
+            made.append((None, self._jump(self.flow.place_from(0))))
+        for at, behind in zip(order, order[1:] + [None]):
+            line, goal = self._line(at, behind)
+            made.append((at, line))
+            if goal is not None and goal != behind:
+                made.append((None, self._jump(goal)))
+        if RING in self.wanted:
+            made.append((RING, self._jump(RING)))
+        short = []
+        for at, line in made:
+            if at in self.wanted:
+                short.append(("label", self.names[at]))
+            short.append(line)
+        return short
 
-    def _past(self, past, behind):
-        """Lay out a word that is gone past, to what stands behind it."""
-        if self.flow.goes_past(past):
-            self.fails = True
-        self._add(past, self.flow.lines[past])
-        return behind
+    def _jump(self, goal):
+        self.wanted[goal] = True
+        return ("jump", self.names[goal], None)
 
-    def _branch(self, at, line):
-        """Lay out a branch; what comes first of the two places that it goes on to stands behind it."""
-        taken, behind = self.flow.nexts(at)
-        turns = taken not in self.done and (behind in self.done or at < taken < behind)
-        if turns:
-            self._add(at, ("branch", TURNED[line[1]]) + tuple(line[2:4]) + (self._name(behind),) + tuple(line[5:]))
-            self.waiting.append(behind)
-            return taken
-        self._add(at, ("branch",) + tuple(line[1:4]) + (self._name(taken),) + tuple(line[5:]))
-        self.waiting.append(taken)
-        return behind
+    def _line(self, at, behind):
+        """A word or a branch, the next one being known, and what must come behind it, or None."""
+        line = self.flow.lines[at]
+        if line[0] == "word":
+            return line, self.falls[at]
+        taken, goal = self.flow.nexts(at)
+        name = line[1]
+        if taken == behind and goal != behind:
+            name, taken, goal = TURNED[name], goal, taken
+        self.wanted[taken] = True
+        return ("branch", name) + tuple(line[2:4]) + (self.names[taken],) + tuple(line[5:]), goal

@@ -61,7 +61,7 @@ class Terms:
         """So many words behind an address."""
         return (address[0], word_of(address[1] + BYTES * words), address[2])
 
-    def index(self, address, term, scale):
+    def indexed(self, address, term, scale):
         """A term times so many words behind an address."""
         word, atoms = self.times(term, BYTES * scale)
         return (address[0], word_of(address[1] + word), self.sums.plus(address[2], atoms))

@@ -129,7 +129,7 @@ class Change:
         goal, args = goals[turn]
         if ways[turn] == () and self.witness[goal][1] >= rank:
             return False
-        return self._comes_to(goal, beside.known.terms(args), beside.known, way)
+        return self._comes_to(goal, beside.known.all_terms(args), beside.known, way)
 
     def _comes_to(self, goal, args, known, way):
         """Whether all that is told where a block begins is so where a way ends."""

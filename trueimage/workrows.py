@@ -27,8 +27,8 @@ def work_rows(chooser, row):
     if word is not None:
         told = _numbered(kind, word)
         if told is not None:
-            return [("imm", told[0], value, chooser.held(one), told[1], place)]
-    return [("three", THREES[kind], value, chooser.held(one), chooser.held(other), place)]
+            return [("imm", told[0], value, chooser.operand(one), told[1], place)]
+    return [("three", THREES[kind], value, chooser.operand(one), chooser.operand(other), place)]
 
 
 def _fits(number):
@@ -60,11 +60,11 @@ def _equal_rows(chooser, value, one, other, place):
     unlike = chooser.new_value()
     last = ("imm", "sltiu", value, unlike, 1, place)
     if word is None:
-        return [("three", "sub", unlike, chooser.held(one), chooser.held(other), place), last]
+        return [("three", "sub", unlike, chooser.operand(one), chooser.operand(other), place), last]
     number = -signed(word)
     if number == 0:
-        return [("imm", "sltiu", value, chooser.held(one), 1, place)]
+        return [("imm", "sltiu", value, chooser.operand(one), 1, place)]
     if _fits(number):
-        return [("imm", "addi", unlike, chooser.held(one), number, place), last]
-    return [("three", "sub", unlike, chooser.held(one), chooser.held(other), place), last]
+        return [("imm", "addi", unlike, chooser.operand(one), number, place), last]
+    return [("three", "sub", unlike, chooser.operand(one), chooser.operand(other), place), last]
 

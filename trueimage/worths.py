@@ -12,7 +12,7 @@ def pure_term(terms, row, known):
         return terms.work(row[2], known[row[3]], known[row[4]])
     if row[0] == "address":
         return terms.base(("object", row[2]))
-    return terms.index(known[row[2]], known[row[3]], row[4])
+    return terms.indexed(known[row[2]], known[row[3]], row[4])
 
 
 def sum_term(terms, told, known):
