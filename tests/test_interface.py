@@ -13,7 +13,31 @@ FUNCTIONS = {
     "reader": {"read_module": ["text"]},
     "checker": {"check_module": ["tree", "headers"], "header_of": ["tree", "headers"]},
     "meaning": {"mean": ["modules", "inputs", "limit", "most"]},
+    "middle": {"wrong_function": ["function"]},
+    "units": {"check_unit": ["unit"], "wrong_together": ["units"]},
+    "lowering": {"lower_module": ["module"]},
+    "witness": {"check_change": ["old", "new", "witness"], "is_same_by": ["old", "new", "witness"], "factor_of": ["new", "witness"]},
+    "optimising": {"pass_of": ["name", "function"], "optimised": ["function", "names"], "optimised_unit": ["unit", "names"]},
+    "inlining": {"placed": ["unit", "name", "at", "number"], "placed_small": ["unit", "many"], "unit_with_tails": ["unit"]},
+    "lowcode": {"low_gives": ["row"], "low_uses": ["row"], "low_hands": ["end"], "low_end_uses": ["end"]},
+    "choosing": {"chosen": ["function"]},
+    "lives": {"lives": ["blocks"], "is_table": ["blocks", "table"]},
+    "colours": {
+        "colours_of": ["function"], "colours_within": ["function", "many"], "most_alive": ["function"], "spills_in": ["colouring"],
+    },
+    "colourcheck": {"wrong_colours": ["function", "colouring"]},
+    "moves": {"moves_of": ["pairs"], "fewest_moves": ["pairs"]},
+    "emitrows": {"lines_of": ["function", "colouring"]},
+    "forms": {"encode": ["instruction"], "decode": ["word"]},
+    "shortlines": {"same_lines": ["old", "new"], "shortened": ["lines"]},
+    "assembling": {"long_branches": ["lines"], "assembled": ["lines"]},
+    "objects": {"object_of": ["unit", "colourings"], "given_by": ["thing"]},
+    "linking": {
+        "taken": ["objects", "archives"], "unlinked": ["objects"], "stack_needed": ["objects", "limit"],
+        "link": ["objects", "archives", "limit", "base"], "data_start": ["image"], "stack_start": ["image"],
+    },
 }
+DEFAULTS = {"object_of": {"colourings": None}, "link": {"base": 4096}}
 
 
 class InterfaceTest(unittest.TestCase):
@@ -35,7 +59,10 @@ class InterfaceTest(unittest.TestCase):
             for name, params in functions.items():
                 function = getattr(module, name)
                 self.assertEqual(function.__module__, "trueimage." + file)
-                self.assertEqual(list(inspect.signature(function).parameters), params)
+                told = inspect.signature(function).parameters
+                self.assertEqual(list(told), params)
+                defaults = {param: told[param].default for param in params if told[param].default is not inspect.Parameter.empty}
+                self.assertEqual(defaults, DEFAULTS.get(name, {}))
 
 
 if __name__ == "__main__":

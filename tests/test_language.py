@@ -200,5 +200,136 @@ class LanguageTest(unittest.TestCase):
                 self.assertIsNone(re.search(r"\\[^nt\\\"']", line), (name, line))
 
 
+def calls_in(tree):
+    """Calls, each with the node that it stands in."""
+    for node in ast.walk(tree):
+        for child in ast.iter_child_nodes(node):
+            if isinstance(child, ast.Call):
+                yield child, node
+
+
+def name_called(call):
+    return call.func.id if isinstance(call.func, ast.Name) else call.func.attr if isinstance(call.func, ast.Attribute) else None
+
+
+class MoreRulesTest(unittest.TestCase):
+    """Rules that need a look at what stands around."""
+
+    def test_views_are_iterated_at_once(self):
+        # L23: zip and the like stand where they are iterated.
+        makers = ("zip", "enumerate", "reversed", "range", "items", "keys", "values", "map")
+        takers = ("list", "tuple", "dict", "sorted", "sum", "any", "all", "enumerate", "zip")
+        for name in files():
+            for call, around in calls_in(tree_of(name)):
+                if name_called(call) in makers:
+                    if isinstance(around, (ast.For, ast.comprehension)):
+                        self.assertIs(around.iter, call, (name, call.lineno))
+                    elif isinstance(around, ast.Compare):
+                        self.assertIsInstance(around.ops[0], (ast.In, ast.NotIn))
+                    else:
+                        self.assertIsInstance(around, ast.Call, (name, call.lineno))
+                        self.assertIn(name_called(around), takers + ("min", "max"), (name, call.lineno))
+
+    def test_loops_do_not_change_what_they_go_over(self):
+        # L23, as far as names and attributes tell it.
+        changing = ("append", "extend", "insert", "pop", "remove", "clear", "update", "reverse", "setdefault", "add", "sort")
+        for name in files():
+            for loop in nodes(name):
+                if not isinstance(loop, ast.For):
+                    continue
+                over = {ast.dump(part) for part in self.gone_over(loop.iter)}
+                for node in ast.walk(ast.Module(body=loop.body, type_ignores=[])):
+                    changed = None
+                    if isinstance(node, ast.Call) and isinstance(node.func, ast.Attribute) and node.func.attr in changing:
+                        changed = node.func.value
+                    elif isinstance(node, ast.Subscript) and not isinstance(node.ctx, ast.Load):
+                        changed = node.value
+                    if changed is not None:
+                        self.assertNotIn(ast.dump(changed), over, (name, node.lineno))
+
+    def gone_over(self, node):
+        """The names and attributes that a loop goes over, but for copies."""
+        if isinstance(node, ast.Call) and isinstance(node.func, ast.Name):
+            if node.func.id in ("zip", "enumerate", "reversed"):
+                return [part for arg in node.args for part in self.gone_over(arg)]
+            return []
+        if isinstance(node, ast.Call) and isinstance(node.func, ast.Attribute) and node.func.attr in ("items", "keys", "values"):
+            return self.gone_over(node.func.value)
+        return [node] if isinstance(node, (ast.Name, ast.Attribute, ast.Subscript)) else []
+
+    def test_sets(self):
+        # L24: a set stands in len or sorted, behind in, or beside == alone.
+        for name in files():
+            tree = tree_of(name)
+            for node in ast.walk(tree):
+                self.assertNotIsInstance(node, (ast.GeneratorExp, ast.Yield, ast.YieldFrom, ast.Starred), name)
+                for child in ast.iter_child_nodes(node):
+                    if isinstance(child, (ast.Set, ast.SetComp)) or isinstance(child, ast.Call) and name_called(child) in ("set", "frozenset"):
+                        right = isinstance(node, ast.Compare) or isinstance(node, ast.Call) and name_called(node) in ("len", "sorted")
+                        self.assertTrue(right, (name, child.lineno))
+
+    def test_keywords(self):
+        told = {"sorted": ("key", "reverse"), "min": ("key", "default"), "max": ("key", "default"), "sum": ("start",), "enumerate": ("start",)}
+        own = {node.name for name in files() for node in nodes(name) if isinstance(node, (ast.FunctionDef, ast.ClassDef))}
+        for name in files():
+            for call, _ in calls_in(tree_of(name)):
+                for keyword in call.keywords:
+                    called = name_called(call)
+                    self.assertTrue(keyword.arg in told.get(called, ()) or called in own, (name, call.lineno))
+                self.assertIsInstance(call.func, (ast.Name, ast.Attribute), (name, call.lineno))
+
+    def test_tables_are_only_read(self):
+        # L15: a list or dict at module level is indexed, gone over, asked for its length or what is in it.
+        for name in files():
+            tree = tree_of(name)
+            tables = {node.targets[0].id for node in tree.body if isinstance(node, ast.Assign) and isinstance(node.value, (ast.List, ast.Dict))}
+            for node in tree.body:
+                if isinstance(node, ast.Assign):
+                    for inner in ast.walk(node.value):
+                        for child in ast.iter_child_nodes(inner):
+                            self.assertNotIsInstance(child, (ast.List, ast.Dict), name)
+            for node in ast.walk(tree):
+                for child in ast.iter_child_nodes(node):
+                    if isinstance(child, ast.Name) and child.id in tables and isinstance(child.ctx, ast.Load):
+                        right = isinstance(node, ast.Subscript) and node.value is child and isinstance(node.ctx, ast.Load)
+                        right = right or isinstance(node, ast.Compare) or isinstance(node, (ast.For, ast.comprehension)) and node.iter is child
+                        right = right or isinstance(node, ast.Attribute) and node.attr in ("get", "items", "keys", "values")
+                        right = right or isinstance(node, ast.Call) and name_called(node) in ("len", "list", "dict", "sorted")
+                        self.assertTrue(right, (name, child.lineno))
+
+    def test_names_of_methods_and_attributes(self):
+        # L18, L26: no name is both, and attributes have no names of methods of values.
+        methods, stored, read = set(), set(), set()
+        for name in files():
+            for node in nodes(name):
+                if isinstance(node, ast.ClassDef):
+                    methods |= {inner.name for inner in node.body if isinstance(inner, ast.FunctionDef)}
+                if isinstance(node, ast.Attribute):
+                    (read if isinstance(node.ctx, ast.Load) else stored).add(node.attr)
+        methods.discard("__init__")
+        self.assertEqual(methods & stored, set())
+        self.assertEqual(read - stored - methods - set(METHODS), set())
+        barred = "items keys values pop update append clear extend insert remove reverse setdefault sort args encode decode hex fromhex format"
+        self.assertEqual(stored & set(barred.split()), set())
+        own = [word for word in methods for kind in (str, int, list, dict, set, bytes) if hasattr(kind, word)]
+        self.assertEqual([word for word in own if word not in METHODS + ["add", "discard"]], [])
+
+    def test_errors_are_made_on_the_spot(self):
+        errors = {node.name for name in files() for node in nodes(name) if isinstance(node, ast.ClassDef) and name == "errors.py"}
+        for name in files():
+            for node in nodes(name):
+                if isinstance(node, ast.Raise):
+                    self.assertTrue(node.exc is None or name_called(node.exc) in errors, (name, node.lineno))
+                if isinstance(node, ast.ExceptHandler):
+                    self.assertIn(node.type.id, errors | {"KeyError"})
+
+    def test_expressions_that_are_not_used(self):
+        for name in files():
+            for node in nodes(name):
+                if isinstance(node, ast.BinOp):
+                    self.assertNotIsInstance(node.op, ast.Pow, name)
+                self.assertNotIsInstance(node, (ast.JoinedStr, ast.NamedExpr, ast.Try) if name != "witness.py" else ast.NamedExpr, name)
+
+
 if __name__ == "__main__":
     unittest.main()

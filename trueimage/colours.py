@@ -39,9 +39,9 @@ class Registers:
     """Gives registers to values, and finds those for which there are too few."""
 
     def __init__(self, walk, free, kept):
-        self.over_calls = walk.over_calls()
-        self.weights = walk.weights()
-        self.partners = walk.partners()
+        self.over_calls = walk.find_over_calls()
+        self.weights = walk.find_weights()
+        self.partners = walk.find_partners()
         self.kept = kept
         self.allowed = free + kept
         self.numbers = {}

@@ -37,7 +37,7 @@ class Walk:
                         spots.end([given])
 
     def _deaths(self, number):
-        """For each row of a block the values that it uses as the last one; values never used; what lives behind params."""
+        """For each row of a block the values that it uses last; those never used; what lives behind its params."""
         rows = self.blocks[number][1]
         living = living_behind(self.blocks[number], self.table)
         dead = {}
@@ -57,7 +57,7 @@ class Walk:
         deaths.reverse()
         return deaths, dead, living
 
-    def over_calls(self):
+    def find_over_calls(self):
         """The values that live over a call, as keys."""
         found = {}
         for number in self.flow.order:
@@ -72,7 +72,7 @@ class Walk:
                     living[value] = True
         return found
 
-    def weights(self):
+    def find_weights(self):
         """How much each value is used, in loops more."""
         weights = {}
         depths = loop_depths(self.flow)
@@ -88,7 +88,7 @@ class Walk:
                 weights[value] = weights.get(value, 0) + weight
         return weights
 
-    def partners(self):
+    def find_partners(self):
         """For each value those that are handed for it, and for which it is handed."""
         partners = {}
         for number in self.flow.order:

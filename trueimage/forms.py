@@ -54,7 +54,7 @@ def encode(instruction):
 
 
 def _are_registers(one, other, third):
-    return is_number(one, 0, MOST_REGISTER) and is_number(other, 0, MOST_REGISTER) and is_number(third, 0, MOST_REGISTER)
+    return all([is_number(thing, 0, MOST_REGISTER) for thing in (one, other, third)])
 
 
 def _is_distance(thing, half):

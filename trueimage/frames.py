@@ -125,7 +125,7 @@ class LineMaker:
             self.word("addi", goal, source, 0)
 
     def reach(self, base, number, between):
-        """The register and the number that tell what stands so far behind another one, through one between if need be."""
+        """The register and the number that tell what stands so far behind another one, if need be by one between."""
         if fits(number):
             return base, number
         self.word("lui", between, high_part(number), 0)
@@ -167,9 +167,9 @@ class LineMaker:
         kind, number = self.spot(value)
         return between if kind == WORD else number
 
-    def keep(self, value, register):
+    def keep(self, value, source):
         """A value, made in a register, is put where it stands."""
-        self.keep_spot(self.spot(value), register)
+        self.keep_spot(self.spot(value), source)
 
     def keep_spot(self, spot, source):
         """What a register has is put into a spot."""

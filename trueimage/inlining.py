@@ -16,7 +16,9 @@ def placed(unit, name, at, number):
     if not isinstance(name, str) or name not in functions or not is_value(at) or not is_value(number):
         raise BadThing((name, at, number))
     function = functions[name]
-    if at >= len(function[3]) or number >= len(function[3][at][1]) or not _may_be_placed(function, at, number, functions):
+    if at >= len(function[3]) or number >= len(function[3][at][1]):
+        raise BadThing((name, at, number))
+    if not _may_be_placed(function, at, number, functions):
         raise BadThing((name, at, number))
     functions[name] = _placed(function, at, number, functions)
     return _with_functions(unit, [functions[one[0]] for one in unit[2]])

@@ -50,7 +50,7 @@ class LineFlow:
             at += 1
         return at if at < len(self.lines) and self.lines[at][0] == "word" else None
 
-    def nexts(self, at):
+    def nexts_of(self, at):
         """The places behind a word or a branch: the one that a branch takes ahead of the next one."""
         line = self.lines[at]
         if line[0] == "branch":

@@ -172,7 +172,7 @@ def _patched(word, kind, goal, spot):
 
 
 def _beginning(end, main):
-    """The words that begin an image: main is called at depth 1, so many bytes from the base on, and its answer ends it."""
+    """The words that begin an image; main stands so many bytes from the base on."""
     return [
         encode(("lui", SP, high_part(end), 0)),
         encode(("addi", SP, SP, low_part(end))),

@@ -81,9 +81,9 @@ class Lowerer:
             if number > 0:
                 self._begin_block(number, block)
             self.in_loop = block.in_loop
-            last = self.rows[block.behind - 1]
+            last = self.rows[block.stop - 1]
             ends = last[0] in ENDS
-            for at in range(block.start, block.behind - 1 if ends else block.behind):
+            for at in range(block.start, block.stop - 1 if ends else block.stop):
                 lower_row(self, self.rows[at])
             end = ENDS[last[0]] if ends else _end_jump
             end(self, last, block.nexts)
@@ -123,7 +123,7 @@ class Lowerer:
         param = self.maker.new_value()
         params.append(param)
         for edge, value in zip(edges, values):
-            edge.args.append(value)
+            edge.handed.append(value)
         return param
 
     def edge_to(self, number):
@@ -133,7 +133,7 @@ class Lowerer:
             goal, cells, params = self.heads[number]
             edge.goal = goal
             held = {cells[cell]: edge.cells[cell] for cell in cells}
-            edge.args = [held[param] for param in params]
+            edge.handed = [held[param] for param in params]
         else:
             self.edges[number].append(edge)
         return edge

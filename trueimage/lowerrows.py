@@ -62,14 +62,14 @@ def _clear_in_loop(maker, start, nought, words):
     one = maker.give("const", 1)
     many = maker.give("const", words)
     into = maker.edge()
-    into.args = [nought]
+    into.handed = [nought]
     maker.end(("go",), [into])
     at = maker.new_value()
     back = maker.edge()
     maker.begin([into, back], [at], maker.cells, maker.pile)
     maker.emit(("store", maker.give("index", start, at, 1), 0, nought))
     later = maker.give("op", "add", at, one)
-    back.args = [later]
+    back.handed = [later]
     test = maker.give("op", "ltu", later, many)
     out = maker.edge()
     maker.end(("if", test), [back, out])

@@ -1,4 +1,4 @@
-"""Making the blocks of middle code, one behind another, with the values that stand for cells and for what is on the pile.
+"""Making the blocks of middle code, one behind another, with the values that stand for cells and on the pile.
 
 On the pile stand ("word", value) and ("address", value, ahead): so many words behind an address.
 """
@@ -14,7 +14,7 @@ class Edge:
         self.cells = cells
         self.pile = pile
         self.goal = None
-        self.args = []
+        self.handed = []
 
 
 class MiddleMaker:
@@ -87,6 +87,6 @@ class MiddleMaker:
         for params, rows, parts, edges in self.blocks:
             end = parts
             for edge in edges:
-                end = end + (edge.goal, tuple(edge.args))
+                end = end + (edge.goal, tuple(edge.handed))
             made.append((params, rows, end))
         return tuple(made)

@@ -10,7 +10,7 @@ def _sources_of(pairs):
 
 
 def moves_of(pairs):
-    """Pairs of a goal and a source that, done one after the other, do what all pairs at once do, in the fewest moves."""
+    """Pairs of a goal and a source that, one after the other, do what all pairs at once do, in the fewest moves."""
     sources = _sources_of(pairs)
     # Where the word stands by now that each source had at first.
     stands = {source: source for source in list(sources.values())}

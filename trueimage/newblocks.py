@@ -138,7 +138,7 @@ class Ahead:
 
 
 def turns_to_look_at(block, worths):
-    """The turns that a block may take, whether more than one of them has to tell something, and whether it always fails.
+    """The turns that a block may take, whether they have to tell something, and whether the block always fails.
 
     They are taken from what is known of the block alone, so that no way is needed for a turn that is never taken.
     """

@@ -36,7 +36,7 @@ class Joining:
         self.places.extend(made.places)
         self.patches.extend([(start + patch[0],) + patch[1:] for patch in made.patches])
         self.traps.extend([(start + at, trap) for at, trap in made.traps])
-        self.pace = max(self.pace, _most_words(lines, len(blocks)))
+        self.pace = max(self.pace, _most_words(made, len(blocks)))
 
 
 def object_of(unit, colourings=None):
@@ -61,20 +61,10 @@ def object_of(unit, colourings=None):
     )
 
 
-def _most_words(lines, many):
-    """The most words of one of so many blocks; what begins a function counts to its first block.
-
-    Each branch and jump counts, and so do all that a block hands to those behind it: no way through the block has more.
-    """
-    most = 0
-    words = 0
-    for line in lines:
-        if line[0] != "label":
-            words += 1
-        elif 0 < line[1] < many:
-            words = 0
-        most = max(most, words)
-    return most
+def _most_words(made, many):
+    """The most words of one of so many blocks; what begins a function counts to its first block."""
+    starts = [0] + sorted([place for label, place in made.labels.items() if 0 < label < many])
+    return max([behind - start for start, behind in zip(starts, starts[1:] + [len(made.words)])])
 
 
 def _calls_of(functions):

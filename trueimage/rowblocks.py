@@ -8,9 +8,9 @@ ENDING = ("jump", "if", "case", "return", "leave")
 class RowBlock:
     """A block of rows: its first row, the one behind its last row, and the numbers of the blocks ahead and behind."""
 
-    def __init__(self, start, behind):
+    def __init__(self, start, stop):
         self.start = start
-        self.behind = behind
+        self.stop = stop
         self.nexts = []
         self.befores = []
         # The cells that are read later, from the beginning on.
@@ -81,7 +81,7 @@ def _cells_of(rows, block):
     """The cells that a block reads ahead of writing them, and those that it writes, as keys."""
     reads = {}
     writes = {}
-    for at in range(block.start, block.behind):
+    for at in range(block.start, block.stop):
         row = rows[at]
         if row[0] == "write":
             writes[row[2]] = True

@@ -34,10 +34,10 @@ def _pairs_behind(before, after, one, other):
         turned = new[1] != old[1]
         if tuple(old[2:4]) != tuple(new[2:4]) or (turned and TURNED.get(old[1], "") != new[1]):
             return None
-    behind = after.nexts(other)
+    behind = after.nexts_of(other)
     if turned:
         behind.reverse()
-    return list(zip(before.nexts(one), behind))
+    return list(zip(before.nexts_of(one), behind))
 
 
 def shortened(lines):
@@ -53,37 +53,35 @@ class Shortening:
 
     def __init__(self, lines):
         self.flow = LineFlow(lines)
-        # For each place that a label stands for the first such label.
+        # For each place that labels stand for the least of them, so that blocks keep theirs.
         self.names = {}
         for at, line in enumerate(lines):
             if line[0] == "label":
-                self.names.setdefault(self.flow.place_from(at), line[1])
-        # For each word or branch that can be come to, what comes behind it where nothing is gone on to otherwise.
+                place = self.flow.place_from(at)
+                self.names[place] = min(self.names.get(place, line[1]), line[1])
+        # For each place that can be come to, what comes behind it where nothing is gone on to otherwise.
         self.falls = self._find_falls()
-        self.wanted = {}
 
     def _find_falls(self):
         falls = {}
         pile = [self.flow.place_from(0)]
         while pile:
             at = pile.pop()
-            if at >= 0 and at not in falls:
-                nexts = self.flow.nexts(at)
+            if at not in falls:
+                nexts = self.flow.nexts_of(at) if at >= 0 else []
                 falls[at] = nexts[-1] if nexts else None
                 pile.extend(nexts)
-            elif at == BEHIND:
-                falls[BEHIND] = None
         for at in list(falls):
             if at >= 0 and self.flow.goes_past(at):
                 # Who goes past a word comes to what stands behind that, though the word itself may end there.
-                falls[falls[at]] = self.flow.nexts(at)[0]
+                falls[falls[at]] = self.flow.nexts_of(at)[0]
         return falls
 
     def short_lines(self):
         """The lines, None if the old ones go on behind their last one."""
         if BEHIND in self.falls:
             return None
-        order = sorted(self.falls)
+        order = sorted([at for at in self.falls if at >= 0])
         made = []
         if self.flow.place_from(0) not in order[:1]:
             made.append((None, self._jump(self.flow.place_from(0))))
@@ -92,17 +90,16 @@ class Shortening:
             made.append((at, line))
             if goal is not None and goal != behind:
                 made.append((None, self._jump(goal)))
-        if RING in self.wanted:
+        if RING in self.falls:
             made.append((RING, self._jump(RING)))
         short = []
         for at, line in made:
-            if at in self.wanted:
+            if at in self.names:
                 short.append(("label", self.names[at]))
             short.append(line)
         return short
 
     def _jump(self, goal):
-        self.wanted[goal] = True
         return ("jump", self.names[goal], None)
 
     def _line(self, at, behind):
@@ -110,9 +107,8 @@ class Shortening:
         line = self.flow.lines[at]
         if line[0] == "word":
             return line, self.falls[at]
-        taken, goal = self.flow.nexts(at)
+        taken, goal = self.flow.nexts_of(at)
         name = line[1]
         if taken == behind and goal != behind:
             name, taken, goal = TURNED[name], goal, taken
-        self.wanted[taken] = True
         return ("branch", name) + tuple(line[2:4]) + (self.names[taken],) + tuple(line[5:]), goal

@@ -1,8 +1,8 @@
 """Terms [22]: what values are, made of atoms; equal terms stand for equal words and addresses.
 
-The term of a word is (word, sum of atoms); that of an address is (atom of its object, bytes, sum of atoms), in bytes, so
-that words modulo 2 to the 30th power are bytes modulo 2 to the 32nd. An atom has a key: what it is told by, which for a
-kind of work is (kind, term, term), and ("nought", term) for 1 if the term is 0, else 0.
+The term of a word is (word, sum of atoms); that of an address is (atom of its object, bytes, sum of atoms), in bytes,
+so that words modulo 2 to the 30th power are bytes modulo 2 to the 32nd. An atom has a key: what it is told by, which
+for a kind of work is (kind, term, term), and ("nought", term) for 1 if the term is 0, else 0.
 """
 
 from trueimage.sums import Sums

@@ -12,7 +12,7 @@ from trueimage.worths import Worths
 
 
 def check_change(old, new, witness):
-    """BadWitness unless a new function is well-formed and a witness shows that it does what a well-formed old one does."""
+    """BadWitness unless a new function is well-formed and a witness shows that it does what the old one does."""
     why = wrong_function(new)
     if why is not None:
         raise BadWitness(None, why)

@@ -1,4 +1,4 @@
-"""What values are, as terms, at the beginning of a block: by pure rows from leaves [22], and by what is told of some."""
+"""What values are, as terms, where a block begins: by pure rows from leaves [22], and by what is told of some."""
 
 from trueimage.kindtexts import ADDRESS
 from trueimage.middlerows import PURE
