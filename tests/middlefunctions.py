@@ -55,7 +55,8 @@ class FunctionMaker:
         begun = {}
         params = {0: self.entry_params(kind)}
         for block in range(1, self.many):
-            params[block] = [self.new("word") for _ in range(numbers.choice((0, 0, 1, 2)))]
+            sorts = [numbers.choice(("word", "word", "word", "address")) for _ in range(numbers.choice((0, 0, 1, 2, 3)))]
+            params[block] = [self.new(sort, 1) for sort in sorts]
         bodies = {}
         for block in order_of(goals, above):
             there = list(params[block])
@@ -184,7 +185,8 @@ class FunctionMaker:
     def end(self, goals, there, params, rows):
         args = []
         for goal in goals:
-            args.append(tuple(self.word(there, rows) for _ in params[goal]))
+            args.append(tuple(
+                self.word(there, rows) if self.sorts[param] == "word" else self.address(there, rows) for param in params[goal]))
         if len(goals) == 1:
             return ("go", goals[0], args[0])
         if len(goals) == 2:

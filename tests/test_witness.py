@@ -515,6 +515,44 @@ class RanksTest(CheckerCase):
             self.assertGreaterEqual(factor * 2 + factor, many + 2)
 
 
+class RoundsTest(CheckerCase):
+    """Ways that go through the same old blocks more than once."""
+
+    def test_two_rounds_in_one(self):
+        old = function_of(
+            ((0,), (("const", 1, 0, AT),), ("go", 1, (1,))), ((2,), (("op", 3, "lts", 2, 0, AT),), ("if", 3, 2, (), 3, ())),
+            ((), (("out", 2, AT), ("const", 4, 1, AT), ("op", 5, "add", 2, 4, AT)), ("go", 1, (5,))), ((), (), ("return", 2)), kind="int(int)", slots=())
+        new = function_of(
+            ((0,), (("const", 1, 0, AT),), ("go", 1, (1,))), ((2,), (("op", 3, "lts", 2, 0, AT),), ("if", 3, 2, (), 4, (2,))),
+            ((), (("out", 2, AT), ("const", 4, 1, AT), ("op", 5, "add", 2, 4, AT), ("op", 6, "lts", 5, 0, AT)), ("if", 6, 3, (), 4, (5,))),
+            ((), (("out", 5, AT), ("const", 7, 2, AT), ("op", 8, "add", 2, 7, AT)), ("go", 1, (8,))), ((9,), (), ("return", 9)), kind="int(int)", slots=())
+        witness = (
+            (0, 0, told_same(0), (), ((0,),)), (1, 0, told_same(0, 2), (), ((0,), (1,))), (2, 0, told_same(0, 2), (), ((0, 0), (0, 1))),
+            (2, 0, told_same(0) + ((5, same(2)), (2, (2 ** 32 - 1, ((2, 1),)))), (), ((0,),)), (3, 0, ((9, same(2)),), (), ((),)))
+        self.yes(old, new, witness)
+        self.no(old, new, changed(witness, 3, 2, told_same(0) + ((5, same(2)), (2, same(2)))))
+        self.no(old, new, changed(witness, 2, 4, ((0, 0, 0), (0, 1))))
+        self.no(old, new, changed(witness, 2, 4, ((0, 0), (0, 0))))
+
+    def test_all_rounds_in_one_block(self):
+        rows = (("out", 1, AT), ("const", 2, 1, AT), ("op", 3, "sub", 1, 2, AT), ("const", 4, 2, AT), ("op", 5, "eq", 1, 4, AT))
+        old = function_of(((), (("const", 0, 3, AT),), ("go", 1, (0,))), ((1,), rows, ("if", 5, 2, (), 1, (3,))), ((), (), ("return", 1)), kind="int()")
+        new = function_of(((), (("const", 0, 3, AT), ("out", 0, AT), ("const", 1, 2, AT), ("out", 1, AT)), ("return", 1)), kind="int()")
+        self.yes(old, new, ((0, 0, (), (), ((0, 1, 0),)),))
+        for way in ((0, 0), (0, 1), (0, 1, 1, 0), (0,), ()):
+            self.no(old, new, ((0, 0, (), (), (way,)),))
+
+    def test_a_leaf_that_is_given_anew(self):
+        taken = (("in", 0, AT), ("out", 0, AT))
+        old = function_of(((), (), ("go", 1, ())), ((), taken, ("if", 0, 1, (), 2, ())), ((), (), ("return", 0)), kind="int()")
+        new = function_of(
+            ((), (), ("go", 1, ())), ((), taken, ("if", 0, 2, (), 3, (0,))), ((), (("in", 1, AT), ("out", 1, AT)), ("if", 1, 1, (), 3, (1,))),
+            ((5,), (), ("return", 5)), kind="int()")
+        witness = ((0, 0, (), (), ((0,),)), (1, 0, (), (), ((0,), (1,))), (1, 0, (), (), ((0,), (1,))), (2, 0, ((5, same(0)),), (), ((),)))
+        self.yes(old, new, witness)
+        self.no(old, new, changed(witness, 3, 2, ((5, same(0)), (0, same(0)))))
+
+
 class FormsTest(CheckerCase):
     def test_values_that_are_no_witness(self):
         old = self_same = straight([("out", 0, AT)])

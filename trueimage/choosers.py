@@ -27,6 +27,12 @@ class Chooser:
         # For each pure value that is wanted in a register, the rows that make it.
         self.made = {}
         self.wanted = []
+        # How often each value is handed to blocks.
+        self.handed = {}
+        for number in facts.flow.order:
+            for _, args in hands(facts.blocks[number][2]):
+                for arg in args:
+                    self.handed[arg] = self.handed.get(arg, 0) + 1
 
     def new_value(self):
         """A value that stands between the rows for one row."""
@@ -103,9 +109,20 @@ class Chooser:
             behind += BYTES * row[4] * self.word(row[3])
             address = row[2]
 
+    def handed_on(self, args):
+        """What is handed to a block; a 0 that is handed more often is kept, as its params can stand where it stands."""
+        found = []
+        for arg in args:
+            if self.handed[arg] > 1:
+                self.wanted.append(arg)
+                found.append(arg)
+            else:
+                found.append(self.operand(arg))
+        return tuple(found)
+
     def end(self, end, places):
         """The rows ahead of an end, and the end; places tells where blocks stand."""
-        goals = [(places[goal], self.operands(args)) for goal, args in hands(end)]
+        goals = [(places[goal], self.handed_on(args)) for goal, args in hands(end)]
         if end[0] == "go":
             return [], ("go",) + goals[0]
         if end[0] == "if":

@@ -35,10 +35,9 @@ def is_same_by(old, new, witness):
 def factor_of(new, witness):
     """How many steps come at most for one, and as many more, by a witness that was let by."""
     ahead = [len(rows) + 1 for _, rows, _ in new[3]]
-    flow = Facts(new).flow
     most = 1
     # Where a way is empty the rank falls, so blocks of higher ranks come first.
-    for number in sorted(flow.order, key=lambda block: -witness[block][1]):
+    for _, number in sorted([(-witness[number][1], number) for number in Facts(new).flow.order]):
         most = max(most, ahead[number])
         for (goal, _), way in zip(hands(new[3][number][2]), witness[number][4]):
             if way == ():
