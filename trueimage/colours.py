@@ -2,6 +2,10 @@
 
 from trueimage.colourforms import FREE, KEPT, REGISTER, WORD
 from trueimage.colourwalk import Walk
+from trueimage.webs import Webs
+
+# No more webs than these have words of their own.
+MOST_WEBS = 1024
 
 
 def colours_of(function):
@@ -28,7 +32,7 @@ def _coloured(function, free, kept):
     walk = Walk(function)
     registers = Registers(walk, free, kept)
     walk.go(registers)
-    words = Words(registers.spilled, registers.partners)
+    words = Words(walk, registers.spilled)
     walk.go(words)
     spots = [(value, REGISTER, number) for value, number in registers.numbers.items()]
     spots.extend([(value, WORD, number) for value, number in words.numbers.items()])
@@ -98,11 +102,14 @@ class Registers:
 
 
 class Words:
-    """Gives words of the frame to values that are spilled."""
+    """Gives words of the frame to values that are spilled: each web has a word of its own, as far as there are such."""
 
-    def __init__(self, spilled, partners):
+    def __init__(self, walk, spilled):
         self.spilled = spilled
-        self.partners = partners
+        self.webs = Webs(walk, spilled) if spilled else None
+        # The words of webs, and those of values that stand alone.
+        self.homes = {}
+        self.shared = []
         self.numbers = {}
         self.users = {}
 
@@ -119,17 +126,19 @@ class Words:
     def give(self, value):
         """A value is given."""
         if value in self.spilled:
-            number = self._unused(value)
+            number = self._word_for(value)
             self.numbers[value] = number
             self.users[number] = value
 
-    def _unused(self, value):
-        """A word that is not in use, one that saves a move if there is one."""
-        for partner in self.partners.get(value, []):
-            number = self.numbers.get(partner, -1)
-            if number >= 0 and number not in self.users:
+    def _word_for(self, value):
+        web = self.webs.web_of(value)
+        if web in self.homes:
+            return self.homes[web]
+        if web is not None and len(self.homes) < MOST_WEBS:
+            self.homes[web] = len(self.homes) + len(self.shared)
+            return self.homes[web]
+        for number in self.shared:
+            if number not in self.users:
                 return number
-        number = 0
-        while number in self.users:
-            number += 1
-        return number
+        self.shared.append(len(self.homes) + len(self.shared))
+        return self.shared[-1]

@@ -5,7 +5,7 @@ Block comes behind block so that all that lives where a value is given has its s
 
 from trueimage.flow import Flow, loop_depths
 from trueimage.lives import lives, living_behind
-from trueimage.lowcode import low_end_uses, low_gives, low_hands, low_uses
+from trueimage.lowcode import NOUGHT, low_end_uses, low_gives, low_hands, low_uses
 
 # Loops within one another count no more than so many times.
 MOST_DEPTH = 8
@@ -88,14 +88,22 @@ class Walk:
                 weights[value] = weights.get(value, 0) + weight
         return weights
 
-    def find_partners(self):
-        """For each value those that are handed for it, and for which it is handed."""
-        partners = {}
+    def find_handed(self):
+        """How often a value is handed for a param, for pairs of a param and a value."""
+        handed = {}
         for number in self.flow.order:
             for goal, args in low_hands(self.blocks[number][2]):
                 for param, arg in zip(self.blocks[goal][0], args):
-                    partners.setdefault(param, []).append(arg)
-                    partners.setdefault(arg, []).append(param)
+                    if arg != NOUGHT:
+                        handed[(param, arg)] = handed.get((param, arg), 0) + 1
+        return handed
+
+    def find_partners(self):
+        """For each value those that are handed for it, and for which it is handed, the most often ones first."""
+        partners = {}
+        for _, param, arg in sorted([(-many, param, arg) for (param, arg), many in self.find_handed().items()]):
+            partners.setdefault(param, []).append(arg)
+            partners.setdefault(arg, []).append(param)
         return partners
 
     def most_alive(self):

@@ -44,11 +44,10 @@ class Draft:
         self.names[value] = other
         self.told[value] = same(other)
 
-    def result(self):
-        """The new function and its witness."""
-        names = {value: self.name_of(value) for value in list(self.names)}
-        flow = Flow([[goal for goal, _ in hands(end)] for end in self.ends])
-        stands = [number for number in range(len(self.ends)) if flow.can_come_to(number)]
+    def changed(self):
+        """The function as it is changed."""
+        names = self._last_names()
+        stands = self._stands()
         places = {number: at for at, number in enumerate(stands)}
         blocks = []
         for number in stands:
@@ -56,12 +55,25 @@ class Draft:
             end = end_named(self.ends[number], names)
             end = turned(end, [(places[goal], args) for goal, args in hands(end)])
             blocks.append((tuple(self.params[number]), rows, end))
-        new = self.function[:3] + (tuple(blocks),)
+        return self.function[:3] + (tuple(blocks),)
+
+    def witness_of(self, new):
+        """The witness that the changed function does the same."""
+        names = self._last_names()
+        stands = self._stands()
         told = {}
         for leaf, (word, pairs) in self.told.items():
             told[leaf] = (word, tuple([(names.get(value, value), many) for value, many in pairs]))
         ways = [self.ways[number] for number in stands]
-        return new, witness_for(self.facts, Facts(new), stands, ways, told, self.tells_all)
+        return witness_for(self.facts, Facts(new), stands, ways, told, self.tells_all)
+
+    def _last_names(self):
+        return {value: self.name_of(value) for value in list(self.names)}
+
+    def _stands(self):
+        """The old blocks that are left: those that can be come to now."""
+        flow = Flow([[goal for goal, _ in hands(end)] for end in self.ends])
+        return [number for number in range(len(self.ends)) if flow.can_come_to(number)]
 
 
 def plain_ways(end):

@@ -28,7 +28,7 @@ def are_values(thing):
 
 def is_word(thing):
     """Whether a thing is a word."""
-    return is_number(thing, 0, GREATEST)
+    return isinstance(thing, int) and not isinstance(thing, bool) and 0 <= thing <= GREATEST
 
 
 def are_words(thing):

@@ -14,11 +14,12 @@ def witness_for(old, new, stands, ways, told, tells_all=False):
     Old leaves are told where old values hang on them, if it tells all, else where these aren't known as new ones.
     """
     showing = Showing(old, new, stands, ways, told, tells_all)
+    pairs = {value: (value, same(value)) for value in new.given}
     entries = []
     for number in range(len(new.blocks)):
         if new.flow.can_come_to(number):
             needed = showing.needed[number]
-            known = tuple([(value, same(value)) for value in sorted(needed) if needed[value]])
+            known = tuple([pairs[value] for value in sorted(needed) if needed[value]])
             alike = tuple([(leaf, told[leaf]) for leaf in sorted(showing.alike[number])])
             entries.append((stands[number], 0, known, alike, ways[number]))
         else:
@@ -49,35 +50,49 @@ class Showing:
             self._find_alike(tells_all)
 
     def _find_needed(self):
-        pile = []
+        # For each value the blocks where it has to be looked at; values are looked at one behind another.
+        blocks = {}
         for number in self.new.flow.order:
             for value in used_ahead(self.new, number):
-                pile.append((number, value))
+                blocks.setdefault(value, []).append(number)
+        values = list(blocks)
+        while values:
+            value = values.pop()
+            for other, number in self._follow(value, blocks.pop(value, [])):
+                if other not in blocks:
+                    blocks[other] = []
+                    values.append(other)
+                blocks[other].append(number)
+
+    def _follow(self, value, pile):
+        """A value is needed in blocks, and in those ahead of them; pairs of other values that are, and a block."""
+        home, at = self.new.given[value]
+        row = self.new.row_of(value)
+        others = []
         while pile:
-            number, value = pile.pop()
+            number = pile.pop()
             needed = self.needed[number]
             if value not in needed:
                 needed[value] = self.old.ahead(value, self.stands[number])
-                if needed[value]:
-                    pile.extend(self._wanted_ahead(number, value))
-                else:
-                    row = self.new.row_of(value)
+                if not needed[value]:
                     if row is not None and row[0] in PURE:
-                        pile.extend([(number, part) for part in uses(row)])
+                        others.extend([(part, number) for part in uses(row)])
+                elif home == number and at < 0:
+                    others.extend(self._handed_to(value, number))
+                else:
+                    pile.extend([before for before in self.new.flow.befores[number] if before != home or at < 0])
+        return others
 
-    def _wanted_ahead(self, number, value):
-        """Pairs of a block ahead and a value, that must be known there to know a value where a block begins."""
+    def _handed_to(self, param, number):
+        """Pairs of what is handed for a param, where no row of the block that hands it gives it, and this block."""
+        at = self.new.blocks[number][0].index(param)
         found = []
-        param = -1
-        if self.new.given[value] == (number, -1):
-            param = self.new.blocks[number][0].index(value)
         for before in self.new.flow.befores[number]:
             for goal, args in hands(self.new.blocks[before][2]):
                 if goal == number:
-                    wanted = value if param < 0 else args[param]
-                    home, at = self.new.given[wanted]
-                    if home != before or at < 0:
-                        found.append((before, wanted))
+                    home, row = self.new.given[args[at]]
+                    if home != before or row < 0:
+                        found.append((args[at], before))
         return found
 
     def _find_alike(self, tells_all):
