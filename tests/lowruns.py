@@ -52,7 +52,6 @@ class LowRun:
 
     def begin(self, name, args):
         function = self.functions[name]
-        self.steps += sum(function[1])
         slots = [self.object([0] * words) for words in function[1]]
         params = function[2][0][0]
         assert len(params) == len(args), name

@@ -99,13 +99,74 @@ EXAMPLES = r"""
 >>> image = link([], (("all", (thing,)),), 7, 65536)
 >>> [image[8], image[3], image[2] == stack_needed([thing], 7), data_start(image) % 16, stack_start(image) - data_start(image), unlinked([]), len(taken([], (("all", (thing, thing)),)))]
 [65536, 7, True, 0, 16, [('missing', 'main')], 1]
+>>> from trueimage.meaning import mean
+>>> from trueimage.whole import built, modules_of
+>>> TEXT = "module m; int row[3] = {5, 7}; int main() { int i = in(); out(row[i]); return 10 / row[2 - i]; }"
+>>> [mean(modules_of([TEXT]), (word,), 1, 100)[:2] for word in (1, 0, 3)]
+[((7,), ('answer', 1)), ((5,), ('trap', 'zero', ('m', 1, 82))), ((), ('trap', 'bounds', ('m', 1, 66)))]
+>>> from trueimage.machine import run_image
+>>> image, most = built([TEXT], (0, False, ("fold", "dead"), 3), 1)
+>>> [run_image(image, (word,), 1000)[:2] for word in (1, 0, 3)]
+[((7,), ('answer', 1)), ((5,), ('trap', 'zero', ('m', 1, 82))), ((), ('trap', 'bounds', ('m', 1, 66)))]
+>>> from trueimage.runs import run
+>>> from trueimage.units import wrong_together
+>>> at = ("m", 1, 1)
+>>> twice = ("twice", "int(int)", (), (((0,), (("op", 1, "add", 0, 0, at),), ("return", 1)),))
+>>> main = ("main", "int()", (), (((), (("in", 0, at), ("call", 1, "twice", (0,), 1, at), ("out", 1, at)), ("return", 0)),))
+>>> unit = ("m", (), (twice, main), ())
+>>> [run([unit], (21,), 2, 100), run([unit], (21,), 1, 100)[:2], run([unit], (), 2, 100)[:2], wrong_together([unit, ("n", (), (), (("far", "int()", 0),))])]
+[((42,), ('answer', 21), 6), ((), ('trap', 'stack', ('m', 1, 1))), ((), ('trap', 'input', ('m', 1, 1))), [('missing', 'far')]]
+>>> from trueimage.choosing import chosen
+>>> from trueimage.lowruns import run_low
+>>> function = ("main", "int()", (2,), (((), (("in", 0, ("m", 1, 1)), ("const", 1, 7, ("m", 1, 3)), ("op", 2, "mul", 0, 1, ("m", 1, 5))), ("return", 2)),))
+>>> low = chosen(function)
+>>> [run_low([("m", (), (low,))], [6], 1, 99)[:2], run_low([("m", (), (low,))], [], 1, 99)[:2]]
+[((), ('answer', 42)), ((), ('trap', 'input', ('m', 1, 1)))]
+>>> from trueimage.coalescing import moves_in, registers_in
+>>> loop = (((0,), (), ("go", 1, (0,))), ((1,), (("imm", "addi", 2, 1, -1, ("m", 1, 1)),), ("branch", "bne", 2, -1, 1, (2,), 2, ())), ((), (), ("return", 0)))
+>>> turn = ("f", (), loop)
+>>> table = ((), (0,), (0,))
+>>> [moves_in(turn, (table, ((0, "r", 8), (1, "r", 9), (2, "r", 9)))), moves_in(turn, (table, ((0, "r", 8), (1, "r", 9), (2, "r", 18)))), registers_in((table, ((0, "r", 8), (1, "w", 0), (2, "r", 8))))]
+[1, 2, (8,)]
+>>> from trueimage.listing import instruction_by, instruction_text, listing, word_text
+>>> [instruction_text(("sw", 2, 10, 8)), instruction_by("lw a0, 8(sp)"), word_text(0), listing((115, 1048691), 64)]
+['sw a0, 8(sp)', ('lw', 10, 2, 8), 'word 0', ['64: ecall', '68: ebreak']]
+>>> from trueimage.objects import object_of
+>>> from trueimage.linking import link
+>>> from trueimage.machine import run_image
+>>> rows = (("in", 0, ("m", 2, 1)), ("address", 1, "g", ("m", 3, 1)), ("load", 2, 1, 0, ("m", 3, 5)), ("op", 3, "divs", 2, 0, ("m", 4, 1)), ("check", 0, "zero", ("m", 4, 3)), ("out", 3, ("m", 5, 1)))
+>>> unit = ("m", (("g", "int[2]", 2, (5,)),), (("main", "int()", (), (((), rows, ("return", 0)),)),), ())
+>>> thing = object_of(unit)
+>>> image = link([], (("all", (thing,)),), 7, 65536)
+>>> [run_image(image, [2], 99)[:2], run_image(image, [0], 99)[:2], run_image(image, [], 99)[:2], run_image(image, [2], 3)]
+[((2,), ('answer', 2)), ((), ('trap', 'zero', ('m', 4, 3))), ((), ('trap', 'input', ('m', 2, 1))), ((), ('on',), 3)]
+>>> from trueimage.objects import object_of
+>>> from trueimage.linking import data_start, link
+>>> from trueimage.machine import Machine
+>>> rows = (("in", 0, ("m", 2, 1)), ("address", 1, "g", ("m", 3, 1)), ("load", 2, 1, 0, ("m", 3, 5)), ("op", 3, "divs", 2, 0, ("m", 4, 1)), ("check", 0, "zero", ("m", 4, 3)), ("out", 3, ("m", 5, 1)))
+>>> unit = ("m", (("g", "int[2]", 2, (5,)),), (("main", "int()", (), (((), rows, ("return", 0)),)),), ())
+>>> thing = object_of(unit)
+>>> image = link([], (("all", (thing,)),), 7, 65536)
+>>> machine = Machine(image, [2])
+>>> [machine.pc, machine.steps, machine.ended, len(machine.registers), machine.field_at(data_start(image))[0][0], machine.field_at(0)]
+[65536, 0, None, 32, 5, (None, 0)]
+>>> from trueimage.objects import object_of
+>>> from trueimage.linking import link
+>>> from trueimage.machine import run_image
+>>> from trueimage.readymachine import run_ready
+>>> rows = (("in", 0, ("m", 2, 1)), ("address", 1, "g", ("m", 3, 1)), ("load", 2, 1, 0, ("m", 3, 5)), ("op", 3, "divs", 2, 0, ("m", 4, 1)), ("check", 0, "zero", ("m", 4, 3)), ("out", 3, ("m", 5, 1)))
+>>> unit = ("m", (("g", "int[2]", 2, (5,)),), (("main", "int()", (), (((), rows, ("return", 0)),)),), ())
+>>> thing = object_of(unit)
+>>> image = link([], (("all", (thing,)),), 7, 65536)
+>>> [run_ready(image, [3], 99) == run_image(image, [3], 99), run_ready(image, [3], 99)[0]]
+[True, (1,)]
 """
 
 
 class ExamplesTest(unittest.TestCase):
     def test_examples(self):
         examples = doctest.DocTestParser().get_doctest(EXAMPLES, {}, "examples", "test_examples.py", 0)
-        self.assertGreater(len(examples.examples), 60)
+        self.assertGreater(len(examples.examples), 100)
         told = []
         doctest.DocTestRunner(verbose=False).run(examples, out=told.append)
         self.assertEqual("".join(told), "")

@@ -32,11 +32,26 @@ FUNCTIONS = {
     "shortlines": {"same_lines": ["old", "new"], "shortened": ["lines"]},
     "assembling": {"long_branches": ["lines"], "assembled": ["lines"]},
     "objects": {"object_of": ["unit", "colourings"], "given_by": ["thing"]},
+    "whole": {"modules_of": ["texts"], "built": ["texts", "choice", "limit"]},
+    "runs": {"run": ["units", "inputs", "limit", "most"]},
+    "lowruns": {"run_low": ["units", "inputs", "limit", "most"]},
+    "coalescing": {"moves_in": ["function", "colouring"], "registers_in": ["colouring"]},
+    "listing": {
+        "instruction_text": ["instruction"], "instruction_by": ["text"], "word_text": ["word"], "listing": ["words", "base"],
+    },
+    "machine": {"run_image": ["image", "inputs", "most"]},
+    "readymachine": {"run_ready": ["image", "inputs", "most"]},
     "linking": {
         "taken": ["objects", "archives"], "unlinked": ["objects"], "stack_needed": ["objects", "limit"],
         "link": ["objects", "archives", "limit", "base"], "data_start": ["image"], "stack_start": ["image"],
     },
 }
+# For each class its methods with their params, and the attributes that are set when it is created.
+CLASSES = {
+    "machine": ("Machine", ["image", "inputs"], {"step": [], "go": ["most"], "field_at": ["address"]}),
+    "readymachine": ("ReadyMachine", ["image", "inputs"], {"step": [], "go": ["most"], "field_at": ["address"]}),
+}
+ATTRIBUTES = ("pc", "registers", "outputs", "steps", "ended")
 DEFAULTS = {"object_of": {"colourings": None}, "link": {"base": 4096}}
 
 
@@ -63,6 +78,19 @@ class InterfaceTest(unittest.TestCase):
                 self.assertEqual(list(told), params)
                 defaults = {param: told[param].default for param in params if told[param].default is not inspect.Parameter.empty}
                 self.assertEqual(defaults, DEFAULTS.get(name, {}))
+
+    def test_classes(self):
+        image = ((115,), (), 0, 1, (None,), (), (), 8, 4096)
+        for file, (name, params, methods) in CLASSES.items():
+            kind = getattr(importlib.import_module("trueimage." + file), name)
+            self.assertEqual(kind.__module__, "trueimage." + file)
+            self.assertEqual(list(inspect.signature(kind).parameters), params)
+            for method, told in methods.items():
+                # Each one is defined in the class itself.
+                self.assertEqual(list(inspect.signature(vars(kind)[method]).parameters), ["self"] + told)
+            made = kind(image, ())
+            for attribute in ATTRIBUTES:
+                self.assertIn(attribute, vars(made))
 
 
 if __name__ == "__main__":

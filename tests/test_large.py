@@ -9,12 +9,10 @@ from support import checked
 from trueimage.choosing import chosen
 from trueimage.colourcheck import wrong_colours
 from trueimage.colours import colours_of, most_alive, spills_in
-from trueimage.inlining import placed_small, unit_with_tails
-from trueimage.linking import link
 from trueimage.lowering import lower_module
-from trueimage.objects import object_of
-from trueimage.optimising import optimised_unit
-from trueimage.units import check_unit
+from trueimage.machine import run_image
+from trueimage.meaning import mean
+from trueimage.whole import built
 
 MOST_SIGNS = 30000
 NAMES = [a + b for a in "abcdefghijklmnopqrstuvwxyz" for b in "abcdefghijklmnopqrstuvwxyz" if a + b not in ("if", "do", "in")]
@@ -22,6 +20,7 @@ PASSES = ("fold", "params", "again", "dead", "loops", "join", "thread")
 # For each text at most so many seconds, on a slow machine.
 MOST_SECONDS = 60
 MOST_CALLS = 300
+MOST_WORDS = 70000
 
 
 def text_of(body, ahead="", many=1, first="", last=""):
@@ -62,6 +61,12 @@ TEXTS = {
     "calls": text_of("x=f(x)+f(3);", F, 0, "int x=in();", "out(x);"),
     "words": text_of("while(x){" + "".join(f"out(x+{at * 7919});" for at in range(1500)) + "}", first="int x=in();"),
     "rows out of a loop": text_of("while(x){" + "".join(f"out(y*{at});" for at in range(1700)) + "}", first="int x=in();int y=in();"),
+    "cases that each change one": text_of("while(in()){switch(in()){" + "".join(
+        f"case {at}:{one}={other};" for at, (one, other) in enumerate(zip(NAMES[:200], NAMES[1:201]))) + "}}", first=declared(201), last=told(201)),
+    "cases that break": text_of("while(in()){" * 13 + "switch(in()){" + "".join(
+        f"case {at}:{one}={other};break;" for at, (one, other) in enumerate(zip(NAMES[:150], NAMES[1:151]))) + "}" + "}" * 13, first=declared(151), last=told(151)),
+    "many that go round": text_of("while(in()){int zz=aa;" + "".join(
+        one + "=" + other + ";" for one, other in zip(NAMES[:299], NAMES[1:300])) + "}", many=0, first=declared(300), last=told(300)),
 }
 
 
@@ -83,22 +88,22 @@ class LargeTest(unittest.TestCase):
                 self.assertLess(time.process_time() - start, MOST_SECONDS)
 
     def look(self, text):
-        unit = lower_module(checked(text)[0])
-        check_unit(unit)
-        self.objects(unit)
-        better, _ = optimised_unit(unit, PASSES)
-        check_unit(better)
-        self.objects(better)
-        check_unit(unit_with_tails(placed_small(unit, 8)))
-
-    def objects(self, unit):
+        module = checked(text)[0]
+        outputs, ending, steps = mean([module], (), 1000, 200000)
+        self.assertNotEqual(ending, ("on",))
+        unit = lower_module(module)
         for function in unit[2]:
             low = chosen(function)
             colouring = colours_of(low)
             self.assertIsNone(wrong_colours(low, colouring))
             self.assertTrue(spills_in(colouring) == () or most_alive(low) > 12)
-        image = link([object_of(unit)], [], 1)
-        self.assertGreater(len(image[0]), 6)
+        for choice in ((0, False, (), 11), (8, True, PASSES, 1)):
+            image, most = built([text], choice, 1000)
+            # Moves and copies are as few as can be, so code stays near to the text.
+            self.assertLess(len(image[0]), MOST_WORDS)
+            told = run_image(image, (), most * (steps + 1) + 1)
+            self.assertEqual(told[:2], (outputs, ending))
+            self.assertLessEqual(told[2], most * (steps + 1))
 
 
 if __name__ == "__main__":

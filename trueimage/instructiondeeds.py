@@ -38,34 +38,32 @@ def _number(processor, instruction):
 def _load(processor, instruction):
     name, goal, base, number = instruction
     many, with_sign = SIZES[name]
-    address = word_of(processor.registers[base] + number)
-    words, at = processor.memory.find(address, many)
-    if words is None:
-        processor.go_astray()
-        return
-    word = words[at] >> _bits_ahead(address) & GREATEST_OF[many]
-    if with_sign and word > GREATEST_OF[many] // 2:
-        word = word_of(word - GREATEST_OF[many] - 1)
-    processor.put(goal, word)
+    words, at, ahead = _find(processor, base, number, many)
+    if words is not None:
+        greatest = GREATEST_OF[many]
+        word = words[at] >> ahead & greatest
+        if with_sign and word > greatest // 2:
+            word = word_of(word - greatest - 1)
+        processor.put(goal, word)
 
 
 def _store(processor, instruction):
     name, base, source, number = instruction
     many, _ = SIZES[name]
+    words, at, ahead = _find(processor, base, number, many)
+    if words is not None:
+        greatest = GREATEST_OF[many]
+        words[at] = words[at] & ~(greatest << ahead) | (processor.registers[source] & greatest) << ahead
+
+
+def _find(processor, base, number, many):
+    """The words, the place in them, and the bits ahead in the word, of bytes in memory; outside it goes astray."""
     address = word_of(processor.registers[base] + number)
     words, at = processor.memory.find(address, many)
     if words is None:
         processor.go_astray()
-        return
-    ahead = _bits_ahead(address)
-    greatest = GREATEST_OF[many]
-    rest = words[at] & ~(greatest << ahead)
-    words[at] = rest | (processor.registers[source] & greatest) << ahead
-
-
-def _bits_ahead(address):
-    """How many bits of its word stand ahead of those at an address: the last bits of a word stand first."""
-    return 8 * (address & (BYTES - 1))
+    # The last bits of a word stand first.
+    return words, at, 8 * (address & (BYTES - 1))
 
 
 def _branch(processor, instruction):

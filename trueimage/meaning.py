@@ -5,20 +5,15 @@ list of words, the object's, and a place in it.
 """
 
 from trueimage.kinds import words_of_param
+from trueimage.outside import Going
 from trueimage.words import apply
 
 
-class Run:
+class Run(Going):
     """A run of a program."""
 
     def __init__(self, modules, inputs, limit):
-        self.inputs = inputs
-        self.limit = limit
-        self.taken = 0
-        self.outputs = []
-        self.ending = None
-        self.steps = 0
-        self.functions = {}
+        Going.__init__(self, inputs, limit)
         self.things = {}
         for _, module, _, things, functions in modules:
             for name, _, words, firsts in things:
@@ -44,10 +39,6 @@ class Run:
         self.steps += sum(slots)
         self.rows = rows
         self.at = 0
-
-    def trap(self, kind, place):
-        """The run ends with a trap."""
-        self.ending = ("trap", kind, place)
 
 
 def mean(modules, inputs, limit, most):
@@ -196,15 +187,11 @@ def _out(run, row):
 
 
 def _in(run, row):
-    if run.taken == len(run.inputs):
-        run.trap("input", row[2])
-    else:
-        run.pile.append(run.inputs[run.taken])
-        run.taken += 1
+    run.pile.append(run.take(row[2]))
 
 
 def _more(run, row):
-    run.pile.append(1 if run.taken < len(run.inputs) else 0)
+    run.pile.append(run.more())
 
 
 def _assert(run, row):

@@ -33,7 +33,7 @@ class Webs:
         return web if len(self.members[web]) > 1 else None
 
     def _find_members(self):
-        """For each value that it alone is a web: (number of its block in the walk, row, -1 for a param, block, value)."""
+        """For each value its web of one: (number of its block in the walk, row, -1 for a param, block, value)."""
         members = {}
         for number in self.walk.flow.order:
             params, rows, _ = self.walk.blocks[number]
