@@ -1,4 +1,4 @@
-"""The interface: what stands under the headings that have landed."""
+"""The interface: what stands under its headings."""
 
 import importlib
 import inspect
@@ -41,6 +41,16 @@ FUNCTIONS = {
     },
     "machine": {"run_image": ["image", "inputs", "most"]},
     "readymachine": {"run_ready": ["image", "inputs", "most"]},
+    "objectforms": {"is_object": ["thing"]},
+    "codecheck": {"wrong_code": ["thing", "name"], "wrong_object": ["thing"]},
+    "objecttexts": {"object_text": ["thing"], "object_by": ["text"]},
+    # The document calls what image_of is handed bytes, which is the name of a builtin.
+    "imagebytes": {"image_bytes": ["image"], "image_of": ["numbers"]},
+    "debugging": {
+        "trail": ["image", "inputs", "most"], "counts": ["image", "inputs", "most"], "stops_at": ["image", "inputs", "place", "most"],
+        "open_calls": ["image", "inputs", "steps"], "name_at": ["image", "address"], "word_told": ["image", "inputs", "steps", "name", "at"],
+        "deepest": ["image", "inputs", "most"], "image_listing": ["image"],
+    },
     "linking": {
         "taken": ["objects", "archives"], "unlinked": ["objects"], "stack_needed": ["objects", "limit"],
         "link": ["objects", "archives", "limit", "base"], "data_start": ["image"], "stack_start": ["image"],

@@ -45,7 +45,7 @@ def is_place(thing):
     """Whether a thing is a place of a text."""
     if not isinstance(thing, tuple) or len(thing) != 3:
         return False
-    return is_name(thing[0]) and is_value(thing[1]) and is_value(thing[2])
+    return is_name(thing[0]) and is_word(thing[1]) and is_word(thing[2])
 
 
 def is_deeper(thing):
@@ -73,7 +73,8 @@ def _is_check(thing):
     return isinstance(thing, str) and thing in CHECKS
 
 
-def _is_trap(thing):
+def is_trap(thing):
+    """Whether a thing is a kind of traps."""
     return isinstance(thing, str) and thing in TRAPS
 
 
@@ -96,7 +97,7 @@ ENDS = {
     "if": (is_value, is_value, are_values, is_value, are_values),
     "return": (is_value,),
     "tail": (is_name, are_values, is_deeper, is_place),
-    "trap": (_is_trap, is_place),
+    "trap": (is_trap, is_place),
 }
 
 

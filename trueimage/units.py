@@ -5,6 +5,7 @@ from trueimage.facts import Facts
 from trueimage.kindtexts import sorts_told
 from trueimage.middle import wrong_function
 from trueimage.middleforms import are_words, is_name, is_number
+from trueimage.words import GREATEST
 
 MOST_GLOBAL_WORDS = 4096
 # How many words of params a global has, as told of things that a unit gives or wants.
@@ -19,14 +20,14 @@ def check_unit(unit):
     if not isinstance(things, tuple) or not isinstance(functions, tuple) or not isinstance(wants, tuple):
         raise BadUnit(name, "form")
     for thing in things:
-        if not _is_global(thing):
+        if not is_global(thing):
             raise BadUnit(name, "global")
     for function in functions:
         why = wrong_function(function)
         if why is not None:
             raise BadUnit(name, why)
     for want in wants:
-        if not _is_want(want):
+        if not is_want(want):
             raise BadUnit(name, "want")
     _look_at_names(unit)
     told = {given: (kind, many) for given, kind, many in givens(unit) + list(wants)}
@@ -40,7 +41,8 @@ def givens(unit):
     return found + [(name, kind, len(blocks[0][0])) for name, kind, _, blocks in unit[2]]
 
 
-def _is_global(thing):
+def is_global(thing):
+    """Whether a thing is a global, as units tell it."""
     if not isinstance(thing, tuple) or len(thing) != 4:
         return False
     name, kind, words, firsts = thing
@@ -49,10 +51,11 @@ def _is_global(thing):
     return are_words(firsts) and len(firsts) <= words
 
 
-def _is_want(thing):
+def is_want(thing):
+    """Whether a thing is a want, as units tell it."""
     if not isinstance(thing, tuple) or len(thing) != 3 or not is_name(thing[0]) or not is_name(thing[1]):
         return False
-    return isinstance(thing[2], int) and not isinstance(thing[2], bool) and thing[2] >= IS_GLOBAL
+    return is_number(thing[2], IS_GLOBAL, GREATEST)
 
 
 def _look_at_names(unit):
