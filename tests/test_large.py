@@ -9,6 +9,7 @@ from support import checked
 from trueimage.choosing import chosen
 from trueimage.colourcheck import wrong_colours
 from trueimage.colours import colours_of, most_alive, spills_in
+from trueimage.errors import BadLink, BadThing
 from trueimage.lowering import lower_module
 from trueimage.machine import run_image
 from trueimage.meaning import mean
@@ -21,6 +22,7 @@ PASSES = ("fold", "params", "again", "dead", "loops", "join", "thread")
 MOST_SECONDS = 60
 MOST_CALLS = 300
 MOST_WORDS = 70000
+PLAIN = (0, False, (), 11)
 
 
 def text_of(body, ahead="", many=1, first="", last=""):
@@ -104,6 +106,26 @@ class LargeTest(unittest.TestCase):
             told = run_image(image, (), most * (steps + 1) + 1)
             self.assertEqual(told[:2], (outputs, ending))
             self.assertLessEqual(told[2], most * (steps + 1))
+
+    def test_code_with_too_many_words(self):
+        row = "g[in()]=g[in()]+g[3];" * 1300
+        texts = [f"module m{at}; int g{at}[100]; void f{at}() {{ {row.replace('g[', f'g{at}[')} }}" for at in range(6)]
+        main = "module m; int main() { return 5; }"
+        self.assertLess(len(built(texts[:4] + [main], PLAIN, 7)[0][0]), 200000)
+        for limit in (1, 1000):
+            with self.assertRaises(BadThing) as caught:
+                built(texts + [main], PLAIN, limit)
+            self.assertEqual(caught.exception.thing, limit)
+
+    def test_a_function_whose_jumps_do_not_reach(self):
+        # Copies of very many values at very many ends.
+        names = [one + other for one in "abcdefghijklmnopqrst" for other in "abcdefghijklmnopqrstuvwxyzABCDEFGHIJKLM" if one + other not in ("if", "do", "in")][:760]
+        copies = "".join(f"{one}={other};if(in())continue;" for one, other in zip(names, names[1:]))
+        text = "module m; int main() { " + "".join("int " + name + ";" for name in names) + "while(in()){" + copies + "}" + "".join(f"out({name});" for name in names) + " return 0; }"
+        self.assertLess(len(text), MOST_SIGNS)
+        for texts, limit, error in (([text], 9, BadThing), ([text, "module n; int main() { return 1; }"], 9, BadLink)):
+            with self.assertRaises(error):
+                built(texts, PLAIN, limit)
 
 
 if __name__ == "__main__":

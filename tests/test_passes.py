@@ -110,6 +110,18 @@ class PassesTest(unittest.TestCase):
 
 
 class OptimisedTest(unittest.TestCase):
+    def test_names_as_often_as_one_likes(self):
+        for seed in range(6):
+            unit = lowered(seed)
+            for name in NAMES:
+                # What a pass makes of its own work changes no more before long.
+                function, many = optimised(unit[2][-1], (name,) * 40)
+                self.assertEqual(optimised(unit[2][-1], (name,) * 4000), (function, many))
+            once, _ = optimised_unit(unit, NAMES * 5)
+            again, _ = optimised_unit(unit, NAMES * 300)
+            check_unit(once)
+            check_unit(again)
+
     def test_rows_of_passes(self):
         for seed in range(120):
             numbers = random.Random(seed)

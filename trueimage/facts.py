@@ -30,6 +30,18 @@ class Facts:
             return at < 0
         return self.flow.passes(home, block)
 
+    def are_ahead(self, values, block):
+        """Whether all of these values are given ahead of the rows of a block on every way to it."""
+        given, enters, leaves = self.given, self.flow.enters, self.flow.leaves
+        here = enters[block]
+        for value in values:
+            if value not in given:
+                return False
+            home, at = given[value]
+            if at >= 0 if home == block else not enters[home] <= here <= leaves[home]:
+                return False
+        return True
+
 
 def flow_of(blocks):
     """The ways through the blocks of a function."""

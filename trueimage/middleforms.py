@@ -23,7 +23,10 @@ def is_value(thing):
 
 def are_values(thing):
     """Whether a thing is a tuple of values."""
-    return isinstance(thing, tuple) and all([is_value(part) for part in thing])
+    if not isinstance(thing, tuple):
+        return False
+    # Many are looked at, so each one without a call.
+    return all([isinstance(part, int) and not isinstance(part, bool) and part >= 0 for part in thing])
 
 
 def is_word(thing):
@@ -33,7 +36,7 @@ def is_word(thing):
 
 def are_words(thing):
     """Whether a thing is a tuple of words."""
-    return isinstance(thing, tuple) and all([is_word(part) for part in thing])
+    return are_values(thing) and all([part <= GREATEST for part in thing])
 
 
 def is_name(thing):

@@ -7,6 +7,7 @@ and, as the last one, how the run or the call ends: ("trap", kind, place), ("ret
 """
 
 from trueimage.middlerows import PURE, hands
+from trueimage.witnessforms import is_alone
 from trueimage.worths import leaf_term, pure_term
 
 CHECK = "check"
@@ -29,6 +30,22 @@ class Known:
     def all_terms(self, values):
         """The terms of values."""
         return tuple([self.term(value) for value in values])
+
+    def told_terms(self, told):
+        """The terms of the sums that are told of values, one for each."""
+        given, worths, known = self.given, self.worths, self.worths.known
+        terms = []
+        for _, by in told:
+            if is_alone(by):
+                value = by[1][0][0]
+                if value in given:
+                    terms.append(given[value])
+                else:
+                    terms.append(known[value] if value in known else worths.term(value))
+            else:
+                pairs = [(self.term(value), many) for value, many in by[1]]
+                terms.append(worths.terms.sum_of(by[0], pairs))
+        return terms
 
     def give_pure(self, row):
         """A pure row is done."""

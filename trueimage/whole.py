@@ -3,14 +3,15 @@
 from trueimage.checker import check_module, header_of
 from trueimage.choosing import chosen
 from trueimage.colours import colours_within
-from trueimage.errors import BadProgram, BadThing
+from trueimage.errors import BadForm, BadLink, BadProgram, BadThing
 from trueimage.inlining import placed_small, unit_with_tails
-from trueimage.linking import link
+from trueimage.linking import MOST_LIMIT, link
 from trueimage.lowering import lower_module
 from trueimage.middleforms import is_number
 from trueimage.objects import object_of
 from trueimage.optimising import are_names_of_passes, optimised_unit
 from trueimage.reader import read_module
+from trueimage.units import wrong_together
 
 MOST_PLACED = 8
 MOST_COLOURS = 11
@@ -67,17 +68,30 @@ def built(texts, choice, limit):
     """The image of texts, made by a choice, and how many machine steps come at most for one of the meaning."""
     if not _is_choice(choice):
         raise BadThing(choice)
-    many, _, _, colours = choice
-    objects = []
-    most = 1
-    for module in modules_of(texts):
-        unit, factor = _changed(lower_module(module), choice)
-        most = max(most, factor)
-        colourings = {function[0]: colours_within(chosen(function), colours) for function in unit[2]}
-        objects.append(object_of(unit, colourings))
-    image = link(objects, (), limit)
+    made = [_changed(lower_module(module), choice) for module in modules_of(texts)]
+    units = [unit for unit, _ in made]
+    if not is_number(limit, 1, MOST_LIMIT):
+        raise BadThing(limit)
+    found = wrong_together(units)
+    if found:
+        raise BadLink(found)
+    image = link(_objects_of(units, choice[3], limit), (), limit)
     # A call put in place makes one step more, at most, of the steps of middle code, of which each makes pace steps.
-    return image, image[7] * (STEPS_FOR_ONE * (1 + many) * most + 1)
+    most = max([factor for _, factor in made])
+    return image, image[7] * (STEPS_FOR_ONE * (1 + choice[0]) * most + 1)
+
+
+def _objects_of(units, colours, limit):
+    """The objects of units, whose values have so many registers, for an image with a limit."""
+    objects = []
+    for unit in units:
+        colourings = {function[0]: colours_within(chosen(function), colours) for function in unit[2]}
+        try:
+            objects.append(object_of(unit, colourings))
+        except BadForm:
+            # Only where code has more words than an image may have a jump doesn't reach its label.
+            raise BadThing(limit) from None
+    return objects
 
 
 def _is_choice(thing):

@@ -5,9 +5,9 @@ from trueimage.facts import Facts
 from trueimage.middle import wrong_function
 from trueimage.middlerows import hands
 from trueimage.newblocks import Beside, turn_of, turns_to_look_at
-from trueimage.oldways import OldWay
+from trueimage.oldways import Known, OldWay
 from trueimage.terms import Terms
-from trueimage.witnessforms import is_alike_right, is_entry, is_told_right, is_way
+from trueimage.witnessforms import are_alike_right, are_told_right, is_entry, is_way
 from trueimage.worths import Worths
 
 
@@ -70,12 +70,10 @@ class Change:
         if not is_entry(entry, turns) or not self.old.flow.can_come_to(entry[0]):
             raise BadWitness(number, "form")
         stand, _, told, alike, _ = entry
-        for value, by in told:
-            if not is_told_right(value, by, number, stand, self.new, self.old):
-                raise BadWitness(number, "told")
-        for value, by in alike:
-            if not is_alike_right(value, by, stand, self.old):
-                raise BadWitness(number, "alike")
+        if not are_told_right(told, number, stand, self.new, self.old):
+            raise BadWitness(number, "told")
+        if not are_alike_right(alike, stand, self.old):
+            raise BadWitness(number, "alike")
 
     def _look_at_beginning(self):
         stand, _, told, alike, _ = self.witness[0]
@@ -83,8 +81,8 @@ class Change:
             raise BadWitness(0, "beginning")
         worths = self._old_worths(())
         params = dict(zip(self.new.blocks[0][0], self.old.blocks[0][0]))
-        for value, by in told:
-            if value not in params or told_term(self.terms, by, worths) != worths.term(params[value]):
+        for (value, _), term in zip(told, Known(worths).told_terms(told)):
+            if value not in params or term != worths.term(params[value]):
                 raise BadWitness(0, "beginning")
 
     def _old_worths(self, alike):
@@ -96,8 +94,8 @@ class Change:
         _, _, told, alike, _ = self.witness[number]
         old = self._old_worths(alike)
         new = Worths(self.terms, self.new, "new", {})
-        for value, by in told:
-            new.known[value] = told_term(self.terms, by, old)
+        for (value, _), term in zip(told, Known(old).told_terms(told)):
+            new.known[value] = term
         turns, tells, fails = turns_to_look_at(self.new.blocks[number], new)
         shown = [self._shows(number, turn, tells, old, new) for turn in turns]
         # A block that always fails takes no turn, so either way is enough.
@@ -136,19 +134,10 @@ class Change:
         if way.block != stand:
             return False
         handed = dict(zip(self.new.blocks[goal][0], args))
-        for value, by in told:
-            term = handed[value] if value in handed else known.term(value)
-            if told_term(self.terms, by, way.known) != term:
+        for (value, _), term in zip(told, way.known.told_terms(told)):
+            if term != (handed[value] if value in handed else known.term(value)):
                 return False
-        for value, by in alike:
-            if told_term(self.terms, by, way.known) != way.known.term(value):
+        for (value, _), term in zip(alike, way.known.told_terms(alike)):
+            if term != way.known.term(value):
                 return False
         return True
-
-
-def told_term(terms, told, known):
-    """The term of a sum over old values, which are known."""
-    word, pairs = told
-    if word == 0 and len(pairs) == 1 and pairs[0][1] == 1:
-        return known.term(pairs[0][0])
-    return terms.sum_of(word, [(known.term(value), many) for value, many in pairs])
