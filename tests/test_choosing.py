@@ -56,6 +56,39 @@ class PartsTest(unittest.TestCase):
                 self.assertIsInstance(low_end_uses(form), tuple)
 
 
+class SlotsTest(unittest.TestCase):
+    """What is always beside its slot is told as a place where no word is, so it never reaches another word of the frame."""
+
+    def rows_of(self, blocks, slots=(3, 4)):
+        low = chosen(("main", "int()", slots, blocks))
+        return [row for _, rows, _ in low[2] for row in rows if row[0] in ("load", "store")], low
+
+    def test_in_one_block(self):
+        for index, scale, offset, words in ((0, 1, 0, 0), (2, 1, 0, 2), (1, 2, 0, 2), (0, 1, 2, 2), (3, 1, 0, None), (0, 1, 3, None), (2 ** 32 - 1, 1, 0, None), (2 ** 32 - 1, 1, 1, 0),
+                                            (2 ** 30 + 1, 1, 0, 1), (2 ** 28, 4, 1, 1), (5, 256, 255, None), (2 ** 32 - 1, 256, 255, None)):
+            rows = (("address", 0, 0, AT), ("const", 1, index, AT), ("index", 2, 0, 1, scale, AT), ("load", 3, 2, offset, AT), ("store", 2, offset, 1, AT))
+            told, low = self.rows_of((((), rows, ("return", 3)),))
+            spots = [row[2:5] for row in told]
+            self.assertEqual(spots, [("at", -1, 0) if words is None else ("slot", 0, 4 * words)] * 2)
+            self.assertEqual(run_chosen([("m", (), (low,))], (), 1, 99)[1][0], "astray" if words is None else "answer")
+
+    def test_through_blocks(self):
+        at = (("const", 1, 2, AT), ("index", 2, 0, 1, 1, AT))
+        handed = lambda one, other, offset: self.rows_of((
+            ((), (("address", 0, 0, AT), ("address", 9, 1, AT), ("in", 8, AT)) + at, ("if", 8, 1, (one,), 2, (other,))), ((3,), (), ("go", 3, (3,))), ((4,), (), ("go", 3, (4,))),
+            ((5,), (("load", 6, 5, offset, AT),), ("return", 6))))[0][0][2:5]
+        # Always the same place, in its slot or beside it; and unlike places, of which nothing is known.
+        self.assertEqual([handed(0, 0, 2)[0], handed(2, 2, 0)[0], handed(0, 0, 3), handed(2, 2, 1)], ["at", "at", ("at", -1, 0), ("at", -1, 0)])
+        for one, other in ((0, 2), (0, 9), (2, 9)):
+            self.assertNotEqual(handed(one, other, 3), ("at", -1, 0))
+
+    def test_in_loops(self):
+        blocks = (((), (("address", 0, 0, AT), ("in", 1, AT)), ("go", 1, (0,))), ((2,), (("load", 3, 2, 7, AT), ("const", 4, 1, AT), ("index", 5, 2, 4, 1, AT)), ("if", 3, 1, (5,), 1, (2,))))
+        self.assertNotEqual(self.rows_of(blocks)[0][0][2:5], ("at", -1, 0))
+        same = (blocks[0], (blocks[1][0], blocks[1][1], ("if", 3, 1, (2,), 1, (2,))))
+        self.assertEqual(self.rows_of(same)[0][0][2:5], ("at", -1, 0))
+
+
 class FormTest(unittest.TestCase):
     def look(self, function):
         """A function of chosen rows has the form that [40] tells, and each value is given ahead of its uses."""

@@ -16,6 +16,7 @@ from trueimage.lowering import lower_module
 from trueimage.objectforms import is_object
 from trueimage.objects import object_of
 from trueimage.optimising import optimised_unit
+from wildunits import wild_unit
 
 PASSES = ("fold", "params", "again", "dead", "loops", "join", "thread")
 RETURN = ("jalr", 0, 1, 0)
@@ -72,6 +73,17 @@ class FactTest(unittest.TestCase):
             for names in ((), PASSES, ("join", "again")):
                 made, _ = optimised_unit(unit_with_tails(placed_small(unit, many)), names)
                 self.look(made, random.Random(many))
+
+    def test_wild_units(self):
+        # Loads and stores anywhere, behind addresses that are handed from block to block.
+        for seed in range(150):
+            numbers = random.Random(seed)
+            unit = wild_unit(seed, numbers.choice((2, 6, 9)))
+            if seed % 2:
+                unit = unit_with_tails(placed_small(unit, seed % 9))
+            if seed % 5 == 0:
+                unit, _ = optimised_unit(unit, tuple(numbers.choice(PASSES) for _ in range(3)))
+            self.look(unit, numbers)
 
     def test_large_frames(self):
         text = ("module m; int f(int x) { " + "".join(f"int a{at}[256]; a{at}[x] = x; " for at in range(20)) + "if (x) return f(x - 1) + a3[x]; return a1[x] + a19[0]; }"
@@ -168,6 +180,44 @@ class WrongCodeTest(unittest.TestCase):
         self.right([("sw", 2, 10, -4), RETURN], 16, ())
         self.wrong([("sw", 2, 10, -4), RETURN], 0, 0, ())
 
+    def test_stores_by_other_registers(self):
+        # Known to stand behind sp: in the frame, in words that are saved, and beside the frame.
+        for base, number in ((("addi", 5, 2, 4), 8), (("addi", 5, 2, 16), -4), (("addi", 5, 2, -100), 112), (("addi", 18, 2, 12), 0)):
+            self.right(RIGHT[:4] + [("addi", 7, 18, 0), base, ("sw", base[1], 10, number)] + [("addi", 8, 10, 0), ("addi", 18, 11, 0)] + RIGHT[9:], 16, ())
+        for number in (0, 4, 8, 1, 10):
+            self.wrong(RIGHT[:4] + [("addi", 5, 2, 0), ("sw", 5, 10, number)] + RIGHT[9:], None, 16, ())
+        for number in (-8, 16, 20, 2000):
+            self.wrong(RIGHT[:4] + [("addi", 5, 2, 0), ("sw", 5, 10, number)] + RIGHT[9:], 5, 16, ())
+        for name, number in (("sb", 3), ("sh", 2), ("sb", 7), ("sh", 8)):
+            self.wrong(RIGHT[:4] + [("addi", 5, 2, 0), (name, 5, 10, number)] + RIGHT[9:], None, 16, ())
+        # Known again, as it was put back.
+        self.right(RIGHT[:4] + [("addi", 5, 2, 0), ("sw", 5, 10, 0), ("sw", 5, 1, 0)] + RIGHT[9:], 16, ())
+        # Of whose base nothing is known: a param, what was loaded, a number, what a patch puts there.
+        for base in (("addi", 5, 11, 0), ("lw", 5, 10, 0), ("lui", 5, 5, 0), ("addi", 5, 0, 0), ("sll", 5, 2, 10), ("and", 5, 2, 10)):
+            self.right(RIGHT[:4] + [base, ("sw", 5, 10, 0)] + RIGHT[9:], 16, ())
+        self.right(RIGHT[:4] + [("addi", 5, 2, 0), ("sw", 5, 10, 0)] + RIGHT[9:], 16, ((4, "low", "g", 0),))
+
+    def test_large_frames_by_hand(self):
+        rows = [("lui", 5, 2, 0), ("sub", 2, 2, 5), ("lui", 5, 1, 0), ("add", 5, 5, 2), ("sw", 5, 1, -4), ("jal", 1, 0, 0), ("lui", 1, 1, 0), ("add", 1, 1, 2), ("lw", 1, 1, -4),
+                ("lui", 5, 2, 0), ("add", 2, 2, 5), RETURN]
+        call = ((5, "jump", "far", 0),)
+        self.right(rows, 8192, call)
+        self.wrong(rows[:4] + [NOP] + rows[5:], 11, 8192, call)
+        self.wrong(rows[:4] + [("sw", 5, 10, -4)] + rows[5:], 11, 8192, call)
+        self.wrong(rows[:8] + [("lw", 1, 1, -8)] + rows[9:], 11, 8192, call)
+        self.wrong(rows[:9] + [("lui", 5, 1, 0)] + rows[10:], None, 8192, call)
+        self.wrong(rows, None, 8176, call)
+        self.wrong(rows[:2] + [("lui", 5, 3, 0)] + rows[3:], 4, 8192, call)
+
+    def test_stores_on_ways_that_come_together(self):
+        # Through a loop a register is behind sp at first, and then unknown: such stores reach objects.
+        self.right([("addi", 2, 2, -16), ("addi", 5, 2, 0), ("sw", 5, 0, 0), ("addi", 5, 5, 4), ("bne", 5, 10, -8), ("addi", 2, 2, 16), RETURN], 16, ())
+        # On both ways the same.
+        rows = [("addi", 2, 2, -16), ("beq", 10, 0, 12), ("addi", 5, 2, 4), ("jal", 0, 8, 0), ("addi", 5, 2, 4), ("sw", 5, 0, 0), ("addi", 2, 2, 16), RETURN]
+        self.right(rows, 16, ())
+        self.wrong(rows[:5] + [("sw", 5, 0, 12)] + rows[6:], 5, 16, ())
+        self.right(rows[:4] + [("addi", 5, 2, 0), ("sw", 5, 0, 12)] + rows[6:], 16, ())
+
     def test_stores_that_are_patched(self):
         low = CALL[:0] + ((4, "low", "g", 0),) + CALL
         self.wrong(self.changed(4, ("sw", 2, 10, 12)), 4, 16, low)
@@ -211,7 +261,7 @@ class WrongCodeTest(unittest.TestCase):
         self.wrong(RIGHT[:14] + [NOP], 14)
         self.wrong(RIGHT[:14] + [("ecall", 0, 0, 0)], 14)
         self.wrong(RIGHT[:14] + [("fence", 0, 0, 0)], 14)
-        self.wrong(self.changed(14, ("beq", 0, 0, -4)), 14)
+        self.wrong(self.changed(14, ("beq", 0, 0, -4)))
         for instruction in (("beq", 8, 0, -28), ("beq", 8, 0, 36), ("beq", 8, 0, 4094), ("beq", 8, 0, 10), ("beq", 8, 0, 2), ("bne", 8, 0, -2), ("jal", 0, -28, 0), ("jal", 0, 36, 0),
                             ("jal", 0, 2, 0), ("jal", 5, 400, 0), ("jal", 0, -2 ** 20, 0)):
             self.wrong(self.changed(6, instruction), 6)

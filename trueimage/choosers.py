@@ -6,6 +6,7 @@ stand in instructions, tests in branches, and parts of addresses in loads and st
 
 from trueimage.lowcode import NOUGHT
 from trueimage.middlerows import hands
+from trueimage.slotroots import SlotRoots
 from trueimage.words import signed, word_of
 from trueimage.workrows import LEAST, MOST, work_rows
 
@@ -22,6 +23,7 @@ class Chooser:
     def __init__(self, facts, slots, first):
         self.facts = facts
         self.slots = slots
+        self.slot_roots = SlotRoots(facts)
         self.depth = first
         self.next_value = first + 1
         # For each pure value that is wanted in a register, the rows that make it.
@@ -87,15 +89,23 @@ class Chooser:
 
     def spot(self, address, offset):
         """Where a word stands, so many words behind an address: its kind, what, and bytes."""
+        if self._is_beside_slot(address, offset):
+            # No run comes here: code may tell any address, but none of another word of the frame.
+            return "at", NOUGHT, 0
         kind, what, bytes_behind = self._root(address)
         bytes_behind = signed(word_of(bytes_behind + BYTES * offset))
+        if kind == "slot" or (kind == "name" and 0 <= bytes_behind < MOST_OBJECT_BYTES):
+            return kind, what, bytes_behind
         if kind == "at" and LEAST <= bytes_behind <= MOST:
             return kind, self.operand(what), bytes_behind
-        if kind == "name" and 0 <= bytes_behind < MOST_OBJECT_BYTES:
-            return kind, what, bytes_behind
-        if kind == "slot" and 0 <= bytes_behind < BYTES * self.slots[what]:
-            return kind, what, bytes_behind
         return "at", self.operand(address), BYTES * offset
+
+    def _is_beside_slot(self, address, offset):
+        """Whether so many words behind an address is always a place beside the slot in which the address was made."""
+        root = self.slot_roots.root(address)
+        if root is None:
+            return False
+        return word_of(root[1] + BYTES * offset) >= BYTES * self.slots[root[0]]
 
     def _root(self, address):
         """What an address stands behind, and by how many bytes."""

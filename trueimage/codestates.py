@@ -6,7 +6,6 @@ What is known is ("first", register), what a register had at first; ("sp", bytes
 
 from trueimage.colourforms import KEPT
 from trueimage.frames import RA, SP
-from trueimage.instructionwork import made_of
 from trueimage.words import signed, word_of
 
 FIRST = "first"
@@ -34,7 +33,7 @@ class CodeState:
         other.frame = dict(self.frame)
         return other
 
-    def join(self, other):
+    def meet(self, other):
         """Only what is known in both states stays: whether anything goes."""
         changed = False
         for number, known in enumerate(other.registers):
@@ -101,6 +100,4 @@ def worked_out(name, one, other):
         return plus(other, one[1])
     if name == "sub" and other is not None and other[0] == NUMBER:
         return plus(one, word_of(-other[1]))
-    if one is None or other is None or one[0] != NUMBER or other[0] != NUMBER:
-        return None
-    return (NUMBER, made_of(name, one[1], other[1]))
+    return None

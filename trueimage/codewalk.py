@@ -1,14 +1,16 @@
 """The walk over the code of a function [49].
 
 It goes on at each word with what holds on all ways that come there: what is known where ways come together only gets
-less, so it comes to an end.
+less, so it comes to an end. A store by another register than sp that is known to reach the frame is found by a walk for
+which it reaches objects alone; then the walk is made once more.
 """
 
-from trueimage.codestates import FIRST, NUMBER, SAVED, CodeState, worked_out
+from trueimage.codestates import NUMBER, CodeState, worked_out
 from trueimage.forms import FORMS, decode
 from trueimage.frames import ARGS, RA, SP
 from trueimage.instructiondeeds import SIZES
 from trueimage.patches import goes_with
+from trueimage.units import IS_GLOBAL
 from trueimage.words import word_of
 
 BYTES = 4
@@ -26,30 +28,47 @@ class CodeWalk:
         self.instructions = [decode(word) for word in thing[1][self.first:self.stop]]
         self.size = dict(thing[8])[name]
         self.patches = {patch[0]: patch[1:] for patch in thing[5] if self.first <= patch[0] < self.stop}
-        # The functions that may be called, as keys.
-        self.functions = {told[0]: True for told in thing[3]}
-        self.functions.update({told[0]: True for told in thing[4] if told[2] >= 0})
+        # What is no function, as keys.
+        self.things = {told[0]: True for told in thing[2]}
+        self.things.update({told[0]: True for told in thing[4] if told[2] == IS_GLOBAL})
         # For each word to which a branch or a jump goes, and the first one, what is known there, None until one comes.
-        self.states = {self.first: CodeState()}
-        for at in range(self.first, self.stop):
-            goal = self._goal(at)
-            if goal is not None:
-                self.states.setdefault(goal, None)
-        self.waiting = {self.first: True}
+        self.states = {}
+        self.waiting = {}
+        # The stores by other registers than sp that are known to stand so many bytes behind the first sp, as keys:
+        # those that were found ahead of this walk, and those of this one.
+        self.known_stores = {}
+        self.stores = {}
 
     def wrong(self):
         """None if the code keeps what is agreed upon, else a word and a place."""
         for at, patch in self.patches.items():
             if not goes_with(patch[0], self.instructions[at - self.first]):
                 return "patch", at
+        while True:
+            self._find_states()
+            # By what holds in the end, not by what seemed to hold when only some ways had come there.
+            self.stores = {}
+            places = [at for at in sorted(self.states) if self.states[at] is not None]
+            found = [self._go_from(at) for at in places]
+            if all([at in self.known_stores for at in self.stores]):
+                wrong = [one for one in found if one is not None]
+                return wrong[0] if wrong else None
+            self.known_stores.update(self.stores)
+
+    def _find_states(self):
+        """Find what is known at each word to which something goes, whatever is wrong."""
+        self.states = {self.first: CodeState()}
+        for at in range(self.first, self.stop):
+            goal = self._goal(at)
+            if goal is not None:
+                self.states.setdefault(goal, None)
+        self.waiting = {self.first: True}
         while self.waiting:
             # One round through the code, as far as something is to be looked at anew.
-            for at in sorted(self.waiting):
+            places = sorted(self.waiting)
+            for at in places:
                 del self.waiting[at]
-                found = self._go_from(at)
-                if found is not None:
-                    return found
-        return None
+                self._go_from(at)
 
     def _goal(self, at):
         """The word to which a branch, or a jump that isn't patched, goes; None for others, and for no word at all."""
@@ -87,7 +106,7 @@ class CodeWalk:
         if self.states[goal] is None:
             self.states[goal] = state.same()
             self.waiting[goal] = True
-        elif self.states[goal].join(state):
+        elif self.states[goal].meet(state):
             self.waiting[goal] = True
 
     def _is_sp_right(self, state):
@@ -134,7 +153,7 @@ class CodeWalk:
             state.put(goal, None)
             return ("jump", []) if behind is None else (None, [behind])
         _, name, many = self.patches[at]
-        if name not in self.functions or many != 0:
+        if name in self.things or many != 0:
             return "jump", []
         if goal == RA:
             if state.sp() != -self.size:
@@ -163,19 +182,17 @@ class CodeWalk:
         name, base, source, number = self.instructions[at - self.first]
         many = SIZES[name][0]
         behind = state.bytes_behind(base, number)
-        known = state.registers[source]
-        is_whole = name == "sw" and behind is not None and behind & (BYTES - 1) == 0
-        if base != SP:
-            # Who stores by other registers reaches objects, but for words of a large frame into which something is
-            # saved: no index that a check stops ahead of the store may take from what is known of them.
-            if is_whole and at not in self.patches and behind not in state.frame and -self.size <= behind < 0:
-                if known is not None and known[0] == FIRST and known[1] in SAVED:
-                    state.put_word(behind, known)
+        if behind is None:
+            # It reaches objects alone.
             return None
+        if base != SP:
+            self.stores[at] = True
+            if at not in self.known_stores:
+                return None
         if at in self.patches or not -self.size <= behind <= -many:
             return "store"
-        if is_whole:
-            state.put_word(behind, known)
+        if name == "sw" and behind & (BYTES - 1) == 0:
+            state.put_word(behind, state.registers[source])
         else:
             state.lose(behind, many)
         return None

@@ -38,7 +38,9 @@ class Facts:
             if value not in given:
                 return False
             home, at = given[value]
-            if at >= 0 if home == block else not enters[home] <= here <= leaves[home]:
+            if home == block and at >= 0:
+                return False
+            if not enters[home] <= here <= leaves[home]:
                 return False
         return True
 

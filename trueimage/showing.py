@@ -58,7 +58,8 @@ class Showing:
         values = list(blocks)
         while values:
             value = values.pop()
-            for other, number in self._follow(value, blocks.pop(value, [])):
+            found = self._follow(value, blocks.pop(value))
+            for other, number in found:
                 if other not in blocks:
                     blocks[other] = []
                     values.append(other)
