@@ -3,7 +3,7 @@
 Each function for a sort of statements tells whether every way through such a statement comes to a return.
 """
 
-from trueimage.checkexpressions import claim_of, rows_of, word_rows
+from trueimage.checkexpressions import claim_of, rows_of
 from trueimage.kinds import MOST_OF_LOCAL, is_word
 
 

@@ -1,7 +1,5 @@
 """What each row of a checked function is in middle code [21]; the rows are told in trueimage/body.py."""
 
-from trueimage.middlemaker import ADDRESS
-
 # So many words at most are cleared one behind another, more in a loop.
 MOST_CLEARED_ROWS = 8
 
