@@ -9,6 +9,7 @@ from programs import random_program
 from randomcolours import FREE, KEPT, neighbours_of, points_of, random_colouring, table_of
 from support import checked
 from trueimage.choosing import chosen
+from trueimage.coalescing import moves_in
 from trueimage.colourcheck import wrong_colours
 from trueimage.colours import colours_of, colours_within, most_alive, spills_in
 from trueimage.lives import is_table, lives
@@ -249,6 +250,37 @@ class ColouringsTest(unittest.TestCase):
         function = ("f", (), (((0,), (("in", 1, AT),), ("return", 0)),))
         self.assertEqual(most_alive(function), 2)
         self.assertEqual(len(spills_in(colours_within(function, 1))), 1)
+
+
+class WebsTest(unittest.TestCase):
+    """Values that are spilled and handed for one another stand in one word, where they can."""
+
+    NAMES = [one + other for one in "abcefgh" for other in "klmnopqrstuvwxyz"][:90]
+
+    def low_of(self, body):
+        text = "module m; int main() { " + "".join("int " + name + " = in(); " for name in self.NAMES) + body + "".join("out(" + name + ");" for name in self.NAMES) + " return 0; }"
+        return chosen(lower_module(checked(text)[0])[2][0])
+
+    def look(self, low, moves, words):
+        pairs = sum(len(args) for _, _, end in low[2] for _, args in low_hands(end))
+        for many in (1, 2, 5, 12):
+            colouring = colours_within(low, many)
+            self.assertIsNone(wrong_colours(low, colouring))
+            self.assertLess(moves_in(low, colouring), moves * (many + 1))
+            self.assertLess(max(number for _, kind, number in colouring[1] if kind == "w"), words)
+        return pairs
+
+    def test_many_ends_of_loops(self):
+        body = "while (in()) {" * 4 + "".join(name + " = " + name + " + 1; if (in()) break;" for name in self.NAMES) + "}" * 4
+        self.assertGreater(self.look(self.low_of(body), 400, 100), 8000)
+
+    def test_many_cases(self):
+        cases = "".join(f"case {at}: {one} = {other}; break;" for at, (one, other) in enumerate(zip(self.NAMES, self.NAMES[1:])))
+        self.assertGreater(self.look(self.low_of("while (in()) { switch (in()) {" + cases + "} }"), 400, 100), 8000)
+
+    def test_loops_one_behind_another(self):
+        body = "".join(f"for (int i; i < 9; i = i + 1) {{ {one} = {other} + i; if (in()) {one} = 2; }}" for one, other in zip(self.NAMES, self.NAMES[1:]))
+        self.look(self.low_of(body), 400, 110)
 
 
 if __name__ == "__main__":

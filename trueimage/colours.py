@@ -4,7 +4,7 @@ from trueimage.colourforms import FREE, KEPT, REGISTER, WORD
 from trueimage.colourwalk import Walk
 from trueimage.webs import Webs
 
-# No more webs than these have words of their own.
+# So many words of a frame at most are those of webs.
 MOST_WEBS = 1024
 
 
@@ -102,13 +102,14 @@ class Registers:
 
 
 class Words:
-    """Gives words of the frame to values that are spilled: each web has a word of its own, as far as there are such."""
+    """Gives words of the frame to values that are spilled: those of one web have one word, as far as there are such."""
 
     def __init__(self, walk, spilled):
         self.spilled = spilled
-        self.webs = Webs(walk, spilled) if spilled else None
-        # The words of webs, and those of values that stand alone.
-        self.homes = {}
+        self.webs = Webs(walk, spilled)
+        self.homes = self.webs.find_homes(MOST_WEBS) if spilled else {}
+        self.many = max(list(self.homes.values()), default=-1) + 1
+        # The words of values that stand alone.
         self.shared = []
         self.numbers = {}
         self.users = {}
@@ -134,11 +135,8 @@ class Words:
         web = self.webs.web_of(value)
         if web in self.homes:
             return self.homes[web]
-        if web is not None and len(self.homes) < MOST_WEBS:
-            self.homes[web] = len(self.homes) + len(self.shared)
-            return self.homes[web]
         for number in self.shared:
             if number not in self.users:
                 return number
-        self.shared.append(len(self.homes) + len(self.shared))
+        self.shared.append(self.many + len(self.shared))
         return self.shared[-1]

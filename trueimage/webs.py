@@ -32,6 +32,40 @@ class Webs:
         web = self.webs[value]
         return web if len(self.members[web]) > 1 else None
 
+    def find_homes(self, most):
+        """For each web of more values than one a word, below so many, that no other one has in its blocks.
+
+        The blocks of a web are taken to be all from its first to its last one.
+        """
+        spans = self._spans()
+        begins = [[] for _ in self.walk.blocks]
+        ends = [[] for _ in self.walk.blocks]
+        for web in sorted(spans):
+            first, last = spans[web]
+            begins[first].append(web)
+            ends[last].append(web)
+        homes = {}
+        unused = list(range(most - 1, -1, -1))
+        for begun, ended in zip(begins, ends):
+            for web in begun:
+                if unused:
+                    homes[web] = unused.pop()
+            unused.extend([homes[web] for web in ended if web in homes])
+        return homes
+
+    def _spans(self):
+        """For each web of more values than one the first and the last place of its blocks in their order."""
+        spans = {}
+        for at, number in enumerate(self.walk.flow.order):
+            params, rows, _ = self.walk.blocks[number]
+            values = list(self.walk.table[number]) + list(params) + [low_gives(row) for row in rows]
+            for value in values:
+                web = self.web_of(value) if value in self.webs else None
+                if web is not None:
+                    first, _ = spans.get(web, (at, at))
+                    spans[web] = (first, at)
+        return spans
+
     def _find_members(self):
         """For each value its web of one: (number of its block in the walk, row, -1 for a param, block, value)."""
         members = {}
