@@ -213,5 +213,19 @@ class AssembledTest(unittest.TestCase):
                 self.assertEqual([patch[1:] for patch in made.patches], [line[3] for line in lines if line[0] == "word" and line[3] is not None])
 
 
+class EqualTest(unittest.TestCase):
+    def test_equal_lines_give_equal_answers(self):
+        stop = ("word", ("ebreak", 0, 0, 0), ("m", 1, 1), None, "told")
+        lines = [("branch", "beq", 8, 9, 1, ("m", 1, 1)), ("word", ("lui", 5, 0, 0), ("m", 1, 2), ("high", "g", 0), None), ("label", 1), stop]
+        self.assertEqual(assembled(lines), assembled(list(lines)))
+        for at, other in ((0, ("branch", "bne", 8, 9, 1, ("m", 1, 1))), (0, ("branch", "beq", 8, 9, 1, ("m", 1, 9))), (1, ("word", ("lui", 5, 0, 0), ("m", 1, 2), ("high", "h", 0), None)),
+                          (2, ("label", 2)), (3, stop[:4] + ("zero",))):
+            changed = lines[:at] + [other] + lines[at + 1:]
+            if at == 2:
+                changed = changed + [("label", 1), stop]
+            self.assertNotEqual(assembled(lines), assembled(changed))
+        self.assertNotEqual(assembled(lines), None)
+
+
 if __name__ == "__main__":
     unittest.main()

@@ -19,6 +19,11 @@ class Assembled:
         self.traps = []
         self.labels = {}
 
+    def __eq__(self, other):
+        if not isinstance(other, Assembled) or self.words != other.words or self.places != other.places:
+            return False
+        return self.patches == other.patches and self.traps == other.traps and self.labels == other.labels
+
     def word(self, instruction, place):
         """A word comes."""
         self.words.append(encode(instruction))
