@@ -299,6 +299,26 @@ class RunsTest(unittest.TestCase):
                     endings.add(ending[1] if ending[0] == "trap" else "answer")
         self.assertEqual(sorted(endings), ["answer", "bounds", "input", "stack", "told", "zero"])
 
+    def test_what_always_holds(self):
+        """[64]: register 0 is 0, all are words, steps never get less, outputs only grow, code never changes."""
+        for seed in range(40):
+            image = link([object_of(random_unit(seed, 4, tame=True))], (), 3)
+            for kind, _ in MACHINES:
+                machine = kind(image, (1, 2 ** 32 - 1, 3))
+                steps, outputs, code = 0, [], image[0]
+                for _ in range(200):
+                    machine.step()
+                    self.assertIn(machine.steps - steps, (0, 1))
+                    self.assertEqual(machine.outputs[:len(outputs)], outputs)
+                    self.assertEqual((machine.registers[0], len(machine.registers)), (0, 32))
+                    for word in machine.registers + machine.outputs:
+                        self.assertTrue(isinstance(word, int) and not isinstance(word, bool) and 0 <= word < TWO32)
+                    steps, outputs = machine.steps, list(machine.outputs)
+                self.assertEqual(image[0], code)
+                for address in range(data_start(image), data_start(image) + 4 * len(image[1]), 4):
+                    words, at = machine.field_at(address)
+                    self.assertTrue(0 <= words[at] < TWO32)
+
     def test_random_words(self):
         """Both machines, and the one of the tests, on images with words changed, side by side."""
         for seed in range(200):
